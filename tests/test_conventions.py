@@ -1,0 +1,132 @@
+"""What holds for all functions: by position and by name, new results, nothing that is passed is changed."""
+
+import unittest
+from copy import deepcopy
+
+from onestory import barren, clocks, closings, counts, fine, mixed, ones, stories, tables, talks
+from onestory.tables import Table, quiet_table, ring_table, turning_table
+from tests.test_language import INTERFACE
+
+TURNING = turning_table()
+RING = ring_table((2, 2))
+QUIET = quiet_table((2, 1), (1, 1))
+SAME = ((0, 1),) * 3
+BOTH = ((0, 1), (0, 1))
+HALF = (((1, 1), (0, 2)),) * 3
+CLOCK = ("first", 1, 0, (("first", 0, 0, (("done",), ("done",))),))
+
+CALLS = [
+    (tables.sendings, {"sends": (2, 3)}), (tables.delivery, {"table": TURNING, "sending": (0, 1, 0)}),
+    (tables.changed, {"table": TURNING, "sending": (0, 1, 0), "room": 1, "note": 1}),
+    (tables.ring_table, {"sizes": (2, 3)}), (tables.quiet_table, {"sends": (2, 3), "takes": (1, 2)}),
+    (tables.turning_table, {}), (tables.Table, {"sends": (1,), "takes": (2,), "notes": ((1,),)}),
+    (stories.is_rule, {"table": RING, "room": 1, "thing": (0, 1)}), (stories.are_rules, {"table": RING, "thing": BOTH}),
+    (stories.answer, {"table": RING, "rules": BOTH, "sending": (0, 1)}),
+    (stories.stories, {"table": RING, "rules": BOTH}),
+    (stories.is_story, {"table": RING, "rules": BOTH, "thing": (1, 1)}), (stories.all_rules, {"table": RING}),
+    (stories.rules_for, {"table": RING, "sending": (0, 1)}),
+    (fine.part, {"table": RING, "one": (0, 1), "other": (1, 1)}), (fine.is_fine, {"table": QUIET}),
+    (fine.first_pair, {"table": RING}), (fine.unparted, {"table": RING}), (fine.paper, {"table": QUIET}),
+    (fine.is_paper, {"table": QUIET, "thing": {((0, 0), (1, 0)): 0}}),
+    (barren.two_stories, {"table": RING}), (barren.no_story, {"table": RING}),
+    (barren.is_two, {"table": RING, "thing": (BOTH, (0, 0), (1, 1))}),
+    (barren.is_none, {"table": RING, "thing": ((0, 1), (1, 0))}),
+    (counts.story_counts, {"table": RING}),
+    (counts.difference, {"table": RING, "rules": BOTH, "sending": (0, 1)}),
+    (counts.differences, {"table": RING, "rules": BOTH}), (counts.first_clash, {"table": RING, "rules": BOTH}),
+    (mixed.are_mixed, {"table": TURNING, "thing": HALF}), (mixed.whole, {"table": TURNING, "mixed": HALF}),
+    (mixed.shares, {"table": TURNING, "mixed": HALF}), (mixed.mean_stories, {"table": TURNING, "mixed": HALF}),
+    (ones.the_story, {"table": TURNING, "rules": SAME}),
+    (ones.course, {"table": TURNING, "rules": SAME, "sending": (1, 1, 1)}),
+    (ones.is_course, {"table": TURNING, "rules": SAME, "sending": (1, 1, 1), "thing": [1, 2, 0]}),
+    (closings.self_pair, {"table": ring_table((2,)), "room": 0}),
+    (closings.held, {"table": TURNING, "room": 1, "sent": 1}),
+    (closings.closed, {"table": TURNING, "room": 1, "rule": (1, 0)}),
+    (closings.completed, {"table": TURNING, "room": 1, "rule": (1, 0), "rest": (0, 1)}),
+    (closings.bad_closing, {"table": RING, "room": 1}),
+    (closings.is_bad_closing, {"table": RING, "room": 1, "thing": ("rule", (0, 1))}),
+    (closings.settled, {"table": TURNING, "rules": SAME, "queue": (1, 0, 2)}),
+    (closings.possible, {"table": TURNING, "known": {2: (0, 1), 0: (1, 0)}}),
+    (closings.sure_notes, {"table": TURNING, "known": {2: (0, 1), 0: (1, 0)}}),
+    (closings.sure_sends, {"table": TURNING, "known": {2: (0, 1), 0: (1, 0)}}),
+    (closings.completion, {"table": TURNING, "known": {2: (0, 1), 0: (1, 0)}, "rest": (1,)}),
+    (closings.least_known, {"table": TURNING, "rules": SAME, "room": 1}),
+    (talks.pair_table, {"table": TURNING, "one": 0, "other": 2, "known": {1: (0, 1)}}),
+    (talks.hearing, {"table": TURNING, "one": 0, "other": 2, "known": {1: (0, 1)}}),
+    (talks.bad_pair, {"table": ring_table((2, 2, 2)), "one": 0, "other": 2}),
+    (talks.is_bad_pair, {"table": ring_table((2, 2, 2)), "one": 0, "other": 2, "thing": {1: (0, 1)}}),
+    (talks.heard, {"table": TURNING, "rules": SAME}), (talks.talk, {"table": TURNING, "speaker": 2, "hearer": 1}),
+    (talks.is_talk, {"table": TURNING, "speaker": 0, "hearer": 1, "thing": ((0, 0, 0), (1, 0, 0))}),
+    (talks.talk_rules, {"table": TURNING, "speaker": 0, "hearer": 1, "talk": ((0, 0, 0), (1, 0, 0))}),
+    (talks.tellings, {"table": TURNING}),
+    (clocks.hears, {"table": TURNING}), (clocks.first_rooms, {"table": TURNING, "held": {1: 0}}),
+    (clocks.clock, {"table": QUIET}), (clocks.is_clock, {"table": QUIET, "thing": CLOCK}),
+    (clocks.knots, {"table": TURNING}), (clocks.knot, {"table": TURNING}),
+    (clocks.is_knot, {"table": TURNING, "thing": {}}),
+]
+
+
+def copied(thing):
+    """The same value, down to the kinds of what is in it; a Table as what it is made of."""
+    if isinstance(thing, Table):
+        return (Table, thing.sends, thing.takes, thing.notes)
+    return deepcopy(thing)
+
+
+def spoilt(thing):
+    """Empties each list and each dict, at every depth."""
+    if isinstance(thing, (list, tuple)):
+        for part in thing:
+            spoilt(part)
+    if isinstance(thing, dict):
+        for part in thing.values():
+            spoilt(part)
+    if isinstance(thing, (list, dict)):
+        thing.clear()
+
+
+class Conventions(unittest.TestCase):
+    def test_by_position_and_by_name_in_any_order(self):
+        for function, given in CALLS:
+            found = function(*given.values())
+            self.assertEqual(found, function(**given), function)
+            self.assertEqual(found, function(**{name: given[name] for name in reversed(list(given))}))
+
+    def test_kinds_are_told_apart(self):
+        for function, given in CALLS:
+            found = function(**given)
+            if function.__name__.startswith(("is_", "are_")):
+                self.assertIs(found, True, function)
+            self.assertIs(found.__class__, function(**given).__class__)
+
+    def test_what_is_passed_is_not_changed(self):
+        for function, given in CALLS:
+            before = {name: copied(value) for name, value in given.items()}
+            order = {name: list(value) for name, value in given.items() if isinstance(value, dict)}
+            function(**given)
+            self.assertEqual({name: copied(value) for name, value in given.items()}, before, function)
+            self.assertEqual({name: list(value) for name, value in given.items() if isinstance(value, dict)}, order)
+
+    def test_what_is_returned_is_new_at_every_depth(self):
+        for function, given in CALLS:
+            found = function(**given)
+            wanted = deepcopy(found)
+            spoilt(found)
+            self.assertEqual(function(**given), wanted, function)
+
+    def test_what_is_passed_may_be_changed_later(self):
+        known = {1: (0, 1)}
+        found = talks.pair_table(TURNING, 0, 2, known)
+        wanted = copied(found)
+        known.clear()
+        self.assertEqual(copied(found), wanted)
+
+    def test_dicts_have_ascending_keys(self):
+        for function, given in CALLS:
+            found = function(**given)
+            if isinstance(found, dict):
+                self.assertEqual(list(found), sorted(found), function)
+
+    def test_all_functions_of_the_interface_are_called_here(self):
+        listed = [f"onestory.{name}.{call.partition('(')[0]}" for name in INTERFACE for call in INTERFACE[name].split()]
+        self.assertEqual(sorted(f"{function.__module__}.{function.__name__}" for function, _ in CALLS), sorted(listed))

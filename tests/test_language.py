@@ -1,0 +1,186 @@
+"""The interface is defined where it is listed, and the package keeps to the small language that it is written in."""
+
+import ast
+import builtins
+import inspect
+import unittest
+import warnings
+from importlib import import_module
+from pathlib import Path
+
+FOLDER = Path(__file__).resolve().parent.parent / "onestory"
+
+# Own modules stand behind what they import from and ahead of what imports from them.
+ORDER = ["errors", "shapes", "tables", "stories", "fine", "smaller", "barren", "counts", "mixed", "ones", "closings",
+         "talks", "clocks"]
+
+INTERFACE = {
+    "tables": "sendings(sends) delivery(table,sending) changed(table,sending,room,note) ring_table(sizes) "
+              "quiet_table(sends,takes) turning_table() Table(sends,takes,notes)",
+    "stories": "is_rule(table,room,thing) are_rules(table,thing) answer(table,rules,sending) stories(table,rules) "
+               "is_story(table,rules,thing) all_rules(table) rules_for(table,sending)",
+    "fine": "part(table,one,other) is_fine(table) first_pair(table) unparted(table) paper(table) is_paper(table,thing)",
+    "barren": "two_stories(table) no_story(table) is_two(table,thing) is_none(table,thing)",
+    "counts": "story_counts(table) difference(table,rules,sending) differences(table,rules) first_clash(table,rules)",
+    "mixed": "are_mixed(table,thing) whole(table,mixed) shares(table,mixed) mean_stories(table,mixed)",
+    "ones": "the_story(table,rules) course(table,rules,sending) is_course(table,rules,sending,thing)",
+    "closings": "self_pair(table,room) held(table,room,sent) closed(table,room,rule) completed(table,room,rule,rest) "
+                "bad_closing(table,room) is_bad_closing(table,room,thing) settled(table,rules,queue) "
+                "possible(table,known) sure_notes(table,known) sure_sends(table,known) completion(table,known,rest) "
+                "least_known(table,rules,room)",
+    "talks": "pair_table(table,one,other,known) hearing(table,one,other,known) bad_pair(table,one,other) "
+             "is_bad_pair(table,one,other,thing) heard(table,rules) talk(table,speaker,hearer) "
+             "is_talk(table,speaker,hearer,thing) talk_rules(table,speaker,hearer,talk) tellings(table)",
+    "clocks": "hears(table) first_rooms(table,held) clock(table) is_clock(table,thing) knots(table) knot(table) "
+              "is_knot(table,thing)",
+}
+
+LIBRARY = {"math": ["gcd"], "itertools": ["combinations"]}
+BUILTINS = """len range enumerate zip min max sum abs sorted reversed int str bool list tuple dict isinstance
+all any ValueError super""".split()
+METHODS = "append get index items pop remove values __init__".split()
+STATEMENTS = (ast.FunctionDef, ast.ClassDef, ast.ImportFrom, ast.Assign, ast.AugAssign, ast.If, ast.While, ast.For,
+              ast.Return, ast.Raise, ast.Try, ast.Expr, ast.Pass)
+BARRED = (ast.GeneratorExp, ast.Lambda, ast.Set, ast.SetComp, ast.Starred, ast.Yield, ast.YieldFrom, ast.NamedExpr,
+          ast.Await, ast.Div, ast.Pow, ast.Global, ast.Nonlocal)
+
+
+def modules():
+    return {name: ast.parse((FOLDER / f"{name}.py").read_text()) for name in ORDER}
+
+
+def defined(tree):
+    return [node.name for node in tree.body if isinstance(node, (ast.FunctionDef, ast.ClassDef))]
+
+
+def imported(tree):
+    return [alias.name for node in tree.body if isinstance(node, ast.ImportFrom) for alias in node.names]
+
+
+def bound(tree):
+    """All names of parameters, variables, functions and classes."""
+    found = [node.id for node in ast.walk(tree) if isinstance(node, ast.Name) and isinstance(node.ctx, ast.Store)]
+    found += [node.arg for node in ast.walk(tree) if isinstance(node, ast.arg)]
+    return found + [node.name for node in ast.walk(tree) if isinstance(node, (ast.FunctionDef, ast.ClassDef))]
+
+
+class Interface(unittest.TestCase):
+    def test_names_and_parameters(self):
+        for name, listed in INTERFACE.items():
+            module = import_module(f"onestory.{name}")
+            for call in listed.split():
+                word, _, rest = call.partition("(")
+                found = getattr(module, word)
+                self.assertEqual(found.__module__, f"onestory.{name}")
+                self.assertEqual([given for given in rest.rstrip(")").split(",") if given],
+                                 list(inspect.signature(found).parameters), call)
+
+    def test_defined_in_the_file_that_lists_them(self):
+        trees = modules()
+        for name, listed in INTERFACE.items():
+            for call in listed.split():
+                self.assertEqual(defined(trees[name]).count(call.partition("(")[0]), 1)
+
+    def test_equality_stands_in_the_class_itself(self):
+        self.assertIn("__eq__", vars(import_module("onestory.tables").Table))
+
+    def test_the_package_itself_defines_nothing(self):
+        self.assertEqual(ast.parse((FOLDER / "__init__.py").read_text()).body, [])
+
+
+class Files(unittest.TestCase):
+    def test_the_folder_contains_the_modules_alone(self):
+        found = [path.name for path in FOLDER.iterdir() if path.name != "__pycache__"]
+        self.assertEqual(sorted(found), sorted([f"{name}.py" for name in ORDER] + ["__init__.py"]))
+
+    def test_sizes_and_characters(self):
+        for name in ORDER:
+            text = (FOLDER / f"{name}.py").read_text()
+            self.assertTrue(all(sign == "\n" or " " <= sign <= "~" for sign in text), name)
+            self.assertLessEqual(len(text.splitlines()), 399)
+            self.assertLessEqual(max(len(line) for line in text.splitlines()), 120, name)
+            for node in ast.walk(ast.parse(text)):
+                if isinstance(node, ast.FunctionDef):
+                    self.assertLessEqual(node.end_lineno - node.lineno + 1, 40, node.name)
+
+    def test_no_warnings(self):
+        with warnings.catch_warnings():
+            warnings.simplefilter("error")
+            for name in ORDER:
+                compile((FOLDER / f"{name}.py").read_text(), name, "exec")
+
+
+class Imports(unittest.TestCase):
+    def test_only_from_modules_named_before(self):
+        trees = modules()
+        for at, name in enumerate(ORDER):
+            for node in ast.walk(trees[name]):
+                self.assertNotIsInstance(node, ast.Import)
+                if not isinstance(node, ast.ImportFrom):
+                    continue
+                self.assertIn(node, trees[name].body)
+                self.assertEqual([alias.asname for alias in node.names], [None] * len(node.names))
+                names = [alias.name for alias in node.names]
+                if node.module in LIBRARY:
+                    self.assertTrue(set(names) <= set(LIBRARY[node.module]))
+                    continue
+                package, _, module = node.module.partition(".")
+                self.assertEqual((package, node.level), ("onestory", 0))
+                self.assertIn(module, ORDER[:at])
+                self.assertTrue(set(names) <= set(defined(trees[module])), (name, names))
+
+    def test_each_import_is_used_and_its_name_is_free(self):
+        for name, tree in modules().items():
+            used = [node.id for node in ast.walk(tree) if isinstance(node, ast.Name)]
+            for word in imported(tree):
+                self.assertTrue(word in used, (name, word))
+                self.assertNotIn(word, bound(tree), name)
+
+    def test_each_name_is_bound_once_at_module_level(self):
+        for tree in modules().values():
+            names = imported(tree) + defined(tree)
+            names += [node.targets[0].id for node in tree.body if isinstance(node, ast.Assign)]
+            self.assertEqual(sorted(names), sorted(set(names)))
+
+
+class Words(unittest.TestCase):
+    def test_module_level(self):
+        for tree in modules().values():
+            for at, node in enumerate(tree.body):
+                if isinstance(node, ast.Expr):
+                    self.assertTrue(at == 0 and isinstance(node.value.value, str))
+                elif isinstance(node, ast.Assign):
+                    self.assertIsInstance(node.value, ast.Constant)
+                else:
+                    self.assertIsInstance(node, (ast.ImportFrom, ast.FunctionDef, ast.ClassDef))
+
+    def test_statements_and_expressions(self):
+        for name, tree in modules().items():
+            for node in ast.walk(tree):
+                if isinstance(node, ast.stmt):
+                    self.assertIsInstance(node, STATEMENTS, (name, node.lineno))
+                self.assertNotIsInstance(node, BARRED, name)
+                self.assertEqual(getattr(node, "decorator_list", []), [])
+                if isinstance(node, ast.Constant):
+                    self.assertNotIsInstance(node.value, (float, complex, bytes))
+                    self.assertFalse(isinstance(node.value, str) and "%" in node.value)
+
+    def test_only_some_builtins_and_methods(self):
+        for name, tree in modules().items():
+            own = bound(tree) + imported(tree)
+            for node in ast.walk(tree):
+                if isinstance(node, ast.Name) and node.id not in own:
+                    self.assertIn(node.id, BUILTINS, name)
+                if isinstance(node, ast.Call) and isinstance(node.func, ast.Attribute):
+                    self.assertIn(node.func.attr, METHODS, name)
+
+    def test_no_name_of_a_builtin_is_given_another_meaning(self):
+        for name, tree in modules().items():
+            for word in bound(tree):
+                self.assertNotIn(word, vars(builtins), name)
+                self.assertRegex(word, "^(_|[A-Za-z][A-Za-z0-9_]*|__init__|__eq__)$")
+
+    def test_no_class_has_the_name_of_a_variable(self):
+        for tree in modules().values():
+            classes = [node.name for node in ast.walk(tree) if isinstance(node, ast.ClassDef)]
+            self.assertFalse(set(classes) & {node.arg for node in ast.walk(tree) if isinstance(node, ast.arg)})
