@@ -4,6 +4,7 @@ import random
 import unittest
 from itertools import product
 
+from onestory.sketches import Sketch
 from onestory.tables import Table, quiet_table, ring_table, turning_table
 
 ZERO_ALWAYS = Table((2,), (2,), ((0,), (0,)))
@@ -223,6 +224,129 @@ def wrong_rules(table):
 
 def wrong_tables(table):
     return [None, True, 0, "table", (table.sends, table.takes, table.notes), [table], (table,), {}, deep_value()]
+
+
+def wired_table(draw, sends, takes, wires):
+    """Each room receives some function of what the rooms send that wires tell for it."""
+    known = {}
+    notes = []
+    for sent in rows(sends):
+        received = []
+        for room, wired in enumerate(wires):
+            key = (room, tuple(sent[other] for other in wired))
+            received.append(known.setdefault(key, draw.randrange(takes[room])))
+        notes.append(tuple(received))
+    return Table(sends, takes, tuple(notes))
+
+
+FINE = {}
+
+
+def fine_of(sends, takes):
+    """All fine tables of these small sizes, ascending by their notes."""
+    if (sends, takes) not in FINE:
+        FINE[sends, takes] = [table for table in every_table(sends, takes) if plain_fine(table)]
+    return FINE[sends, takes]
+
+
+def every_cell(shape):
+    return [(sent, room) for sent in rows(shape.sends) for room in range(len(shape.sends))]
+
+
+def at_cell(shape, cell):
+    return brings(shape)[cell[0]][cell[1]]
+
+
+def blank_sketch(sends, takes):
+    return Sketch(sends, takes, ((None,) * len(sends),) * len(rows(sends)))
+
+
+def random_sketch(draw, sends, takes, share):
+    """Each cell is known with so many chances of a hundred."""
+    return Sketch(sends, takes, tuple(tuple(draw.randrange(size) if draw.randrange(100) < share else None
+                                            for size in takes) for _ in rows(sends)))
+
+
+def partly_known(draw, table, share):
+    """A sketch of the table, in which each cell is known with so many chances of a hundred."""
+    return Sketch(table.sends, table.takes, tuple(tuple(note if draw.randrange(100) < share else None
+                                                        for note in received) for received in table.notes))
+
+
+def agree(sketch, table):
+    return all(note is None or note == told for here, there in zip(sketch.notes, table.notes)
+               for note, told in zip(here, there))
+
+
+def plain_fits(sketch):
+    return [table for table in fine_of(sketch.sends, sketch.takes) if agree(sketch, table)]
+
+
+def wrong_sketches(sketch):
+    return [None, True, 0, "sketch", (sketch.sends, sketch.takes, sketch.notes), [sketch], (sketch,), {},
+            ZERO_ALWAYS, deep_value()]
+
+
+def is_exact(thing, kind, low=None, high=None):
+    """A value of just this kind; a number from low to less than high."""
+    return thing.__class__ is kind and (low is None or low <= thing) and (high is None or thing < high)
+
+
+def same(one, other):
+    """Equal, with the same kinds at every depth, so that True is not 1."""
+    if one.__class__ is not other.__class__:
+        return False
+    if isinstance(one, (list, tuple)):
+        return len(one) == len(other) and all(same(here, there) for here, there in zip(one, other))
+    if isinstance(one, dict):
+        return (len(one) == len(other) and all(any(same(key, found) for found in other) for key in one)
+                and all(same(one[key], other[key]) for key in one))
+    return one == other
+
+
+def is_one_of(thing, things):
+    return any(same(thing, other) for other in things)
+
+
+def otherwise(thing):
+    """Values that are like this one but for one thing, somewhere in it."""
+    if isinstance(thing, bool) or thing is None:
+        return [0, 1]
+    if isinstance(thing, int):
+        bools = [value for value in (True, False) if value == thing]
+        return [thing + 1, thing - 1, None, str(thing), (thing,), 99] + bools
+    if isinstance(thing, str):
+        return [thing + "s", "", None, 0, (thing,)]
+    if isinstance(thing, dict):
+        return otherwise_dicts(thing)
+    if not isinstance(thing, (list, tuple)):
+        return [None]
+    kind = thing.__class__
+    items = list(thing)
+    found = [list(items) if kind is tuple else tuple(items), kind(items[::-1]), kind(items + [()]), None, 0, {}]
+    found += [kind(items + items[-1:]), kind([items]), dict(enumerate(items))]
+    for at, item in enumerate(items):
+        found.append(kind(items[:at] + items[at + 1:]))
+        found += [kind(items[:at] + [other] + items[at + 1:]) for other in otherwise(item)]
+    return found
+
+
+def otherwise_dicts(thing):
+    found = [list(thing.items()), list(thing), tuple(thing.items()), None, {**thing, None: None}]
+    for key in thing:
+        less = {other: thing[other] for other in thing if other != key}
+        found.append(less)
+        found += [{**less, key: other} for other in otherwise(thing[key])]
+        found += [{**less, other: thing[key]} for other in otherwise(key) if is_key(other)]
+    return found
+
+
+def is_key(thing):
+    try:
+        hash(thing)
+    except TypeError:
+        return False
+    return True
 
 
 class Case(unittest.TestCase):

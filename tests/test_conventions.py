@@ -3,7 +3,9 @@
 import unittest
 from copy import deepcopy
 
-from onestory import barren, clocks, closings, counts, fine, mixed, ones, stories, tables, talks
+from onestory import (barren, clocks, closings, counts, fine, homes, mixed, ones, rings, screens, sketches, stories,
+                      tables, talks, walks, ways)
+from onestory.sketches import Sketch
 from onestory.tables import Table, quiet_table, ring_table, turning_table
 from tests.test_language import INTERFACE
 
@@ -13,6 +15,12 @@ QUIET = quiet_table((2, 1), (1, 1))
 SAME = ((0, 1),) * 3
 BOTH = ((0, 1), (0, 1))
 HALF = (((1, 1), (0, 2)),) * 3
+HALF_KNOWN = Sketch((2, 2), (2, 2), ((0, 0), (1, None), (None, 1), (None, 1)))
+CRUX = Sketch((2, 2), (2, 2), ((0, 0), (1, None), (None, None), (None, 1)))
+BLANK = Sketch((2,), (3,), ((None,), (None,)))
+FIT = Table((2,), (3,), ((2,), (2,)))
+DOOM = {(): (1, ("cell", ((1, 1), 0))), ((((1, 1), 0), 0),): (0, ("pair", (0, 1), (1, 1))),
+        ((((1, 1), 0), 1),): (0, ("pair", (0, 0), (1, 1)))}
 CLOCK = ("first", 1, 0, (("first", 0, 0, (("done",), ("done",))),))
 
 CALLS = [
@@ -63,13 +71,36 @@ CALLS = [
     (clocks.clock, {"table": QUIET}), (clocks.is_clock, {"table": QUIET, "thing": CLOCK}),
     (clocks.knots, {"table": TURNING}), (clocks.knot, {"table": TURNING}),
     (clocks.is_knot, {"table": TURNING, "thing": {}}),
+    (rings.fixed_order, {"table": QUIET}), (rings.is_fixed_order, {"table": QUIET, "thing": (1, 0)}),
+    (rings.rings, {"table": TURNING}), (rings.lone_rings, {"table": RING}),
+    (rings.ring_two, {"table": RING, "ring": (0, 1)}), (rings.ring_none, {"table": RING, "ring": (0, 1)}),
+    (walks.walk, {"table": TURNING, "rules": SAME, "sending": (1, 1, 0)}),
+    (walks.is_wheel, {"table": RING, "thing": [(0, 0), (1, 1)]}),
+    (walks.wheel_rules, {"table": RING, "wheel": [(0, 0), (1, 1)]}), (walks.spark_table, {"sparks": ((0, 1), (0, 1))}),
+    (homes.basin, {"table": RING, "told": {(1, 1): 0, (0, 0): 1}}),
+    (homes.is_home_tree, {"table": QUIET, "thing": ("tell", 0, 0, (("home", (0, 0)), ("home", (1, 0))))}),
+    (homes.home_tree, {"table": QUIET}), (homes.wheel, {"table": TURNING}),
+    (sketches.Sketch, {"sends": (1,), "takes": (2,), "notes": ((None,),)}),
+    (sketches.sketch_of, {"table": RING, "cells": (((0, 1), 0), ((1, 1), 1))}),
+    (sketches.put, {"sketch": HALF_KNOWN, "cell": ((0, 1), 0), "note": None}),
+    (sketches.open_cells, {"sketch": HALF_KNOWN}), (sketches.is_fit, {"sketch": BLANK, "thing": FIT}),
+    (sketches.guessed, {"sketch": HALF_KNOWN, "guess": ((((0, 1), 1), 1),)}),
+    (sketches.dead_pair, {"sketch": HALF_KNOWN}), (ways.some_fit, {"sketch": BLANK}),
+    (ways.doom, {"sketch": HALF_KNOWN}), (ways.is_doom, {"sketch": HALF_KNOWN, "thing": DOOM}),
+    (ways.fits, {"sketch": BLANK, "most": 3}), (ways.sure, {"sketch": BLANK}), (ways.crux, {"sketch": HALF_KNOWN}),
+    (ways.is_crux, {"sketch": HALF_KNOWN, "thing": CRUX}),
+    (ways.story_fits, {"sketch": BLANK, "rules": ((0, 1, 1),)}), (screens.screen, {"sketch": HALF_KNOWN, "kept": 1}),
+    (screens.is_screen, {"sketch": BLANK, "kept": 1, "thing": ((), ((((0,), 0), 2),), ((((1,), 0), 2),))}),
+    (screens.doom_within, {"sketch": HALF_KNOWN, "kept": 2}),
+    (screens.is_doom_within, {"sketch": HALF_KNOWN, "kept": 2, "thing": DOOM}),
+    (screens.least_kept, {"sketch": HALF_KNOWN}),
 ]
 
 
 def copied(thing):
-    """The same value, down to the kinds of what is in it; a Table as what it is made of."""
-    if isinstance(thing, Table):
-        return (Table, thing.sends, thing.takes, thing.notes)
+    """The same value, down to the kinds of what is in it; a Table or a Sketch as what it is made of."""
+    if isinstance(thing, (Table, Sketch)):
+        return (thing.__class__, thing.sends, thing.takes, thing.notes)
     return deepcopy(thing)
 
 

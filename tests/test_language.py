@@ -12,7 +12,8 @@ FOLDER = Path(__file__).resolve().parent.parent / "onestory"
 
 # Own modules stand behind what they import from and ahead of what imports from them.
 ORDER = ["errors", "shapes", "tables", "stories", "fine", "smaller", "barren", "counts", "mixed", "ones", "closings",
-         "talks", "clocks"]
+         "talks", "clocks", "rings", "walks", "homes", "sketches", "search", "every", "dooms", "ways", "memory",
+         "screens"]
 
 INTERFACE = {
     "tables": "sendings(sends) delivery(table,sending) changed(table,sending,room,note) ring_table(sizes) "
@@ -33,14 +34,26 @@ INTERFACE = {
              "is_talk(table,speaker,hearer,thing) talk_rules(table,speaker,hearer,talk) tellings(table)",
     "clocks": "hears(table) first_rooms(table,held) clock(table) is_clock(table,thing) knots(table) knot(table) "
               "is_knot(table,thing)",
+    "rings": "fixed_order(table) is_fixed_order(table,thing) rings(table) lone_rings(table) ring_two(table,ring) "
+             "ring_none(table,ring)",
+    "walks": "walk(table,rules,sending) is_wheel(table,thing) wheel_rules(table,wheel) spark_table(sparks)",
+    "homes": "basin(table,told) is_home_tree(table,thing) home_tree(table) wheel(table)",
+    "sketches": "Sketch(sends,takes,notes) sketch_of(table,cells) put(sketch,cell,note) open_cells(sketch) "
+                "is_fit(sketch,thing) guessed(sketch,guess) dead_pair(sketch)",
+    "ways": "some_fit(sketch) doom(sketch) is_doom(sketch,thing) fits(sketch,most) sure(sketch) crux(sketch) "
+            "is_crux(sketch,thing) story_fits(sketch,rules)",
+    "screens": "screen(sketch,kept) is_screen(sketch,kept,thing) doom_within(sketch,kept) "
+               "is_doom_within(sketch,kept,thing) least_kept(sketch)",
 }
 
-LIBRARY = {"math": ["gcd"], "itertools": ["combinations"]}
-BUILTINS = """len range enumerate zip min max sum abs sorted reversed int str bool list tuple dict isinstance
+LIBRARY = {"math": ["gcd"], "itertools": ["combinations", "permutations"]}
+BUILTINS = """len range enumerate zip min max sum abs sorted reversed int str bool list tuple dict set isinstance
 all any ValueError super""".split()
-METHODS = "append get index items pop remove values __init__".split()
+METHODS = "append extend get index items pop remove setdefault values __init__".split()
+# No attribute and no own method has the name of a method of the builtin values.
+TAKEN = [name for kind in (str, list, dict, tuple, int, bytes, set) for name in vars(kind) if not name.startswith("__")]
 STATEMENTS = (ast.FunctionDef, ast.ClassDef, ast.ImportFrom, ast.Assign, ast.AugAssign, ast.If, ast.While, ast.For,
-              ast.Return, ast.Raise, ast.Try, ast.Expr, ast.Pass)
+              ast.Return, ast.Raise, ast.Try, ast.Expr, ast.Pass, ast.Break, ast.Continue, ast.Delete)
 BARRED = (ast.GeneratorExp, ast.Lambda, ast.Set, ast.SetComp, ast.Starred, ast.Yield, ast.YieldFrom, ast.NamedExpr,
           ast.Await, ast.Div, ast.Pow, ast.Global, ast.Nonlocal)
 
@@ -53,8 +66,17 @@ def defined(tree):
     return [node.name for node in tree.body if isinstance(node, (ast.FunctionDef, ast.ClassDef))]
 
 
+def constants(tree):
+    return [node.targets[0].id for node in tree.body if isinstance(node, ast.Assign)]
+
+
 def imported(tree):
     return [alias.name for node in tree.body if isinstance(node, ast.ImportFrom) for alias in node.names]
+
+
+def own_methods(tree):
+    return [node.name for kind in tree.body if isinstance(kind, ast.ClassDef) for node in kind.body
+            if isinstance(node, ast.FunctionDef)]
 
 
 def bound(tree):
@@ -83,6 +105,7 @@ class Interface(unittest.TestCase):
 
     def test_equality_stands_in_the_class_itself(self):
         self.assertIn("__eq__", vars(import_module("onestory.tables").Table))
+        self.assertIn("__eq__", vars(import_module("onestory.sketches").Sketch))
 
     def test_the_package_itself_defines_nothing(self):
         self.assertEqual(ast.parse((FOLDER / "__init__.py").read_text()).body, [])
@@ -127,7 +150,7 @@ class Imports(unittest.TestCase):
                 package, _, module = node.module.partition(".")
                 self.assertEqual((package, node.level), ("onestory", 0))
                 self.assertIn(module, ORDER[:at])
-                self.assertTrue(set(names) <= set(defined(trees[module])), (name, names))
+                self.assertTrue(set(names) <= set(defined(trees[module]) + constants(trees[module])), (name, names))
 
     def test_each_import_is_used_and_its_name_is_free(self):
         for name, tree in modules().items():
@@ -139,7 +162,7 @@ class Imports(unittest.TestCase):
     def test_each_name_is_bound_once_at_module_level(self):
         for tree in modules().values():
             names = imported(tree) + defined(tree)
-            names += [node.targets[0].id for node in tree.body if isinstance(node, ast.Assign)]
+            names += constants(tree)
             self.assertEqual(sorted(names), sorted(set(names)))
 
 
@@ -166,19 +189,38 @@ class Words(unittest.TestCase):
                     self.assertFalse(isinstance(node.value, str) and "%" in node.value)
 
     def test_only_some_builtins_and_methods(self):
-        for name, tree in modules().items():
+        trees = modules()
+        methods = METHODS + [name for tree in trees.values() for name in own_methods(tree)]
+        for name, tree in trees.items():
             own = bound(tree) + imported(tree)
             for node in ast.walk(tree):
                 if isinstance(node, ast.Name) and node.id not in own:
                     self.assertIn(node.id, BUILTINS, name)
                 if isinstance(node, ast.Call) and isinstance(node.func, ast.Attribute):
-                    self.assertIn(node.func.attr, METHODS, name)
+                    self.assertIn(node.func.attr, methods, name)
 
     def test_no_name_of_a_builtin_is_given_another_meaning(self):
         for name, tree in modules().items():
             for word in bound(tree):
                 self.assertNotIn(word, vars(builtins), name)
                 self.assertRegex(word, "^(_|[A-Za-z][A-Za-z0-9_]*|__init__|__eq__)$")
+
+    def test_names_of_methods_and_attributes(self):
+        trees = modules()
+        methods = [name for tree in trees.values() for name in own_methods(tree) if not name.startswith("__")]
+        assigned = [node.attr for tree in trees.values() for node in ast.walk(tree)
+                    if isinstance(node, ast.Attribute) and isinstance(node.ctx, ast.Store)]
+        for name in methods + assigned:
+            self.assertNotIn(name, TAKEN)
+        self.assertFalse(set(methods) & set(assigned))
+
+    def test_sets_are_made_in_place_only(self):
+        for name, tree in modules().items():
+            inside = [node.args[0] for node in ast.walk(tree) if isinstance(node, ast.Call)
+                      and isinstance(node.func, ast.Name) and node.func.id in ("len", "sorted")]
+            for node in ast.walk(tree):
+                if isinstance(node, ast.Call) and isinstance(node.func, ast.Name) and node.func.id == "set":
+                    self.assertIn(node, inside, name)
 
     def test_no_class_has_the_name_of_a_variable(self):
         for tree in modules().values():
