@@ -61,11 +61,20 @@ def is_doom_of(sketch, thing, is_end):
         return False
     if not all([is_guess(sketch, guess) and is_step(step) for guess, step in thing.items()]):
         return False
-    by_last = {}
-    for guess, (rank, _) in thing.items():
-        by_last.setdefault(guess[-1:], []).append((rank, guess))
+    tree = tree_of(thing)
     return all([is_end(guess, reason) or is_dead_end(sketch, dict(guess), reason)
-                or goes_on(sketch, by_last, guess, rank, reason) for guess, (rank, reason) in thing.items()])
+                or goes_on(sketch, tree, guess, rank, reason) for guess, (rank, reason) in thing.items()])
+
+
+def tree_of(thing):
+    """The guesses of a doom as a tree of dicts: from each pair to what may follow it, from None to the rank."""
+    top = {}
+    for guess, (rank, _) in thing.items():
+        node = top
+        for pair in guess:
+            node = node.setdefault(pair, {})
+        node[None] = rank
+    return top
 
 
 def is_step(thing):
@@ -93,22 +102,22 @@ def line_with(sketch, told, sent):
     return (sent, [told.get((sent, room), note) for room, note in enumerate(received)])
 
 
-def goes_on(sketch, by_last, guess, rank, reason):
+def goes_on(sketch, tree, guess, rank, reason):
     """Whether a tuple tells a cell each note of which leads to a guess of a lesser rank."""
     if len(reason) != 2 or reason[0] != "cell" or not is_cell(sketch, reason[1]):
         return False
     cell = reason[1]
     if note_in(sketch, cell) is not None or cell in dict(guess):
         return False
-    return all([has_part(by_last, guess + ((cell, note),), rank) for note in range(sketch.takes[cell[1]])])
+    return all([has_part(tree, sorted(guess + ((cell, note),)), rank) for note in range(sketch.takes[cell[1]])])
 
 
-def has_part(by_last, pairs, rank):
+def has_part(tree, pairs, rank):
     """Whether some guess of a lesser rank has no pair but these."""
-    told = {pair: True for pair in pairs}
-    # The last pair of a part is one of these, too; the empty guess has none.
-    for last in [()] + [(pair,) for pair in pairs]:
-        for less, guess in by_last.get(last, []):
-            if less < rank and all([pair in told for pair in guess]):
-                return True
+    waiting = [(tree, 0)]
+    while waiting:
+        node, start = waiting.pop()
+        if node.get(None, rank) < rank:
+            return True
+        waiting.extend([(node[pairs[at]], at + 1) for at in range(start, len(pairs)) if pairs[at] in node])
     return False

@@ -6,6 +6,7 @@ from onestory.shapes import multiplied
 def every_fit(search, most):
     """The list of the notes of all fits, in some order; None if there are more than most."""
     search.proving = False
+    search.at_home = False
     found = []
     clash = search.settle([])
     while True:

@@ -9,6 +9,8 @@ from itertools import combinations
 from onestory.shapes import rows
 from onestory.tables import Table
 
+NO_END = 999999999
+
 
 class Search:
     """What is put in the cells at the moment, what is barred from them, and why."""
@@ -37,11 +39,15 @@ class Search:
         self.pairs = []
         self.pairs_of = [[] for _ in self.note]
         self.find_pairs()
-        # The notes of a table to which the fit shall be near, or from which it shall differ.
+        # The notes of a table to which the fit shall be near, or from which it shall differ; whether it is taken that
+        # they stand where nothing else is put.
         self.home = None
+        self.at_home = False
         self.most = len(self.note)
         self.apart = False
         self.unlike = 0
+        # How many times more a clash may be met.
+        self.tries = NO_END
 
     def find_pairs(self):
         """Lists the pairs of sendings that are not parted by what is known, with the cells that may part them."""
@@ -61,11 +67,13 @@ class Search:
     def near_to(self, table, most):
         """From now on a fit may differ from the table in at most so many cells that are unknown."""
         self.home = [note for received in table.notes for note in received]
+        self.at_home = True
         self.most = most
 
     def apart_from(self, table):
         """From now on a fit must differ from the table, with which the sketch agrees."""
         self.home = [note for received in table.notes for note in received]
+        self.at_home = True
         self.apart = True
 
     def takes_of(self, cell):
@@ -265,18 +273,24 @@ class Search:
         return self.spread() if clash is None else clash
 
     def works_out(self, outs):
-        """Whether there is a fit that has none of the notes that are out; if not, the empty key has a step."""
+        """Whether there is a fit that has none of the notes that are out; if not, the empty key has a step.
+
+        None if that is not known when the tries are used up.
+        """
         clash = self.settle(outs)
-        while True:
-            while clash is not None:
+        while self.tries > 0:
+            if clash is None:
+                choice = self.choice()
+                if choice is None:
+                    return True
+                clash = self.choose(choice)
+            else:
+                self.tries -= 1
                 key = self.shortened(clash)
                 if not key:
                     return False
                 clash = self.turn_back(key)
-            choice = self.choice()
-            if choice is None:
-                return True
-            clash = self.choose(choice)
+        return None
 
     def choose(self, choice):
         """Puts a note in a cell, to be taken back again if it clashes; a key that clashes, or None."""
@@ -307,13 +321,18 @@ class Search:
         """The couples of cells that may still part two sendings; None if a couple does."""
         loose = []
         for here, there in self.pairs[pair]:
-            one = self.note[here]
-            other = self.note[there]
-            if one is None or other is None:
-                loose.append((here, there))
-            elif one == other:
+            one = self.likely(here)
+            if one is not None and one == self.likely(there):
                 return None
+            if self.note[here] is None or self.note[there] is None:
+                loose.append((here, there))
         return loose
+
+    def likely(self, cell):
+        """What is taken to stand in the cell, None if nothing is."""
+        if self.note[cell] is None and self.at_home and self.home[cell] not in self.barred[cell]:
+            return self.home[cell]
+        return self.note[cell]
 
     def choice_in(self, couples):
         """The cell and the note that seem best to make the two cells of one of these couples alike."""
@@ -346,8 +365,8 @@ class Search:
         """The Table that was found."""
         notes = []
         for cell, choices in enumerate(self.ways_on()):
-            at_home = self.home is not None and self.home[cell] in choices
-            notes.append(self.home[cell] if at_home else choices[0])
+            note = self.likely(cell)
+            notes.append(choices[0] if note is None else note)
         return self.table_of(notes)
 
     def table_of(self, notes):

@@ -84,10 +84,14 @@ def with_notes(sketch, guess):
     return Sketch(sketch.sends, sketch.takes, tuple(notes))
 
 
+def blank_of(shape):
+    """The Sketch with the sizes of a table or a sketch and nothing known."""
+    return Sketch(shape.sends, shape.takes, ((None,) * len(shape.sends),) * len(shape.notes))
+
+
 def sketch_with(table, cells):
     """The Sketch in which just these cells are known, with the notes of the table; what is passed is not checked."""
-    blank = Sketch(table.sends, table.takes, ((None,) * len(table.sends),) * len(table.notes))
-    return with_notes(blank, [(cell, note_in(table, cell)) for cell in cells])
+    return with_notes(blank_of(table), [(cell, note_in(table, cell)) for cell in cells])
 
 
 def sketch_of(table, cells):

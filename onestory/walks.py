@@ -52,7 +52,6 @@ def agree(one, other):
 
 def wheel_rules(table, wheel):
     """The rules by which the sendings of the wheel answer each other in turn, 0 for what is not received there."""
-    need_table(table)
     if not is_wheel(table, wheel):
         raise BadWheel("no wheel of the table")
     rules = [[0] * taken for taken in table.takes]

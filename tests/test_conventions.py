@@ -3,8 +3,8 @@
 import unittest
 from copy import deepcopy
 
-from onestory import (barren, clocks, closings, counts, fine, homes, mixed, ones, rings, screens, sketches, stories,
-                      tables, talks, walks, ways)
+from onestory import (barren, classes, clocks, closings, counts, fine, homes, mixed, nears, ones, renamings, rings,
+                      screens, sketches, stamps, stories, tables, talks, turns, walks, ways)
 from onestory.sketches import Sketch
 from onestory.tables import Table, quiet_table, ring_table, turning_table
 from tests.test_language import INTERFACE
@@ -16,6 +16,10 @@ SAME = ((0, 1),) * 3
 BOTH = ((0, 1), (0, 1))
 HALF = (((1, 1), (0, 2)),) * 3
 HALF_KNOWN = Sketch((2, 2), (2, 2), ((0, 0), (1, None), (None, 1), (None, 1)))
+LED = Table((2, 2), (2, 2), ((0, 0), (0, 0), (0, 1), (0, 1)))
+CROSS = Table((2, 2), (2, 2), ((0, 0), (1, 0), (0, 0), (1, 0)))
+STAMP = (((0, 0), 0), ((0, 0), 1), ((1, 0), 1))
+NAMES = ((1, 0), ((0, 1), (1, 0)), ((1, 0), (0, 1)))
 CRUX = Sketch((2, 2), (2, 2), ((0, 0), (1, None), (None, None), (None, 1)))
 BLANK = Sketch((2,), (3,), ((None,), (None,)))
 FIT = Table((2,), (3,), ((2,), (2,)))
@@ -94,6 +98,41 @@ CALLS = [
     (screens.doom_within, {"sketch": HALF_KNOWN, "kept": 2}),
     (screens.is_doom_within, {"sketch": HALF_KNOWN, "kept": 2, "thing": DOOM}),
     (screens.least_kept, {"sketch": HALF_KNOWN}),
+    (nears.near, {"table": RING, "many": 2}), (nears.is_near, {"table": QUIET, "many": 0, "thing": QUIET}),
+    (nears.far_paper, {"table": RING, "many": 1}),
+    (nears.is_far_paper, {"table": RING, "many": 1, "thing": nears.far_paper(RING, 1)}),
+    (nears.distance, {"table": RING}), (nears.nearest, {"table": RING, "most": 4}),
+    (stamps.is_stamp, {"table": LED, "thing": STAMP}), (stamps.lock, {"table": LED, "cells": STAMP}),
+    (stamps.is_lock, {"table": LED, "cells": STAMP, "thing": stamps.lock(LED, STAMP)}),
+    (stamps.other_fit, {"table": LED, "cells": STAMP[:2]}), (stamps.fewest_stamp, {"table": LED}),
+    (stamps.stamp, {"table": LED}), (stamps.stamp_paper, {"table": LED, "many": 2}),
+    (stamps.is_stamp_paper, {"table": LED, "many": 2, "thing": stamps.stamp_paper(LED, 2)}),
+    (stamps.needed, {"table": QUIET}), (classes.rests, {"table": TURNING, "room": 1}),
+    (classes.ties, {"table": TURNING, "room": 0, "one": (0, 0), "other": (1, 0)}),
+    (classes.chain, {"table": TURNING, "room": 0, "one": (0, 0), "other": (1, 0)}),
+    (classes.is_chain, {"table": TURNING, "room": 0, "one": (0, 0), "other": (1, 0), "thing": [(0, 1, (1, 0))]}),
+    (classes.classes, {"table": TURNING, "room": 0}), (classes.class_notes, {"table": TURNING, "room": 0}),
+    (classes.apart, {"table": TURNING, "room": 0, "one": (0, 0), "other": (0, 1)}),
+    (classes.is_apart, {"table": TURNING, "room": 0, "one": (0, 0), "other": (0, 1), "thing": TURNING}),
+    (turns.turned, {"table": TURNING, "room": 2, "notes": (1, 1)}),
+    (turns.passed, {"table": TURNING, "turns": [(2, (1, 1)), (2, (0, 1))]}),
+    (turns.is_way, {"one": LED, "other": CROSS, "thing": [(1, (0,) * 2), (0, (0, 1))]}),
+    (turns.hushed, {"table": RING, "rooms": (0, 1)}), (turns.plain_way, {"one": LED, "other": CROSS}),
+    (turns.mixed, {"one": LED, "other": CROSS, "mix": (1, 2)}), (turns.fewest_turns, {"one": LED, "other": CROSS}),
+    (turns.short_way, {"one": LED, "other": CROSS}), (turns.bar, {"one": LED, "other": CROSS, "number": 1}),
+    (turns.is_bar, {"one": LED, "other": CROSS, "number": 1, "thing": {(2, 0): ((0, 0), (1, 1))}}),
+    (renamings.is_renaming, {"sends": (2, 2), "takes": (2, 2), "thing": NAMES}),
+    (renamings.no_renaming, {"sends": (2, 2), "takes": (2, 2)}),
+    (renamings.renamed_sizes, {"sends": (2, 2), "takes": (2, 2), "renaming": NAMES}),
+    (renamings.renaming_back, {"sends": (2, 2), "takes": (2, 2), "renaming": NAMES}),
+    (renamings.renaming_on, {"sends": (2, 2), "takes": (2, 2), "renaming": NAMES, "then": NAMES}),
+    (renamings.renamed, {"table": LED, "renaming": NAMES}),
+    (renamings.renamed_sending, {"table": LED, "renaming": NAMES, "sending": (0, 1)}),
+    (renamings.renamed_rules, {"table": LED, "renaming": NAMES, "rules": BOTH}),
+    (renamings.renamed_paper, {"table": LED, "renaming": NAMES, "paper": fine.paper(LED)}),
+    (renamings.keeping_count, {"sends": (2, 2), "takes": (2, 2)}), (renamings.renamings, {"one": LED, "other": CROSS}),
+    (renamings.alike, {"one": LED, "other": CROSS}), (renamings.likes, {"table": LED}),
+    (renamings.first_like, {"table": LED}),
 ]
 
 

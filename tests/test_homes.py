@@ -215,6 +215,14 @@ class HomeTrees(Case):
         self.assertIs(is_home_tree(table, tree), True)
         self.assertEqual([tree[0], tree[3][0][0]], ["tell", "home"])
 
+    def test_a_wheel_beside_rooms_that_send_one_number(self):
+        # The turning table with a room more, which sends nothing else than 0 and receives what room 0 sends.
+        notes = tuple(received + (sent[0],) for sent, received in brings(TURNING).items())
+        table = Table((2, 2, 2, 1), (2, 2, 2, 2), notes)
+        self.assertTrue(plain_fine(table))
+        self.assertIs(is_wheel(table, wheel(table)), True)
+        self.assertIsNone(home_tree(table))
+
     def test_just_4096_rules_and_more(self):
         just = [quiet_table((2,) * 6, (2,) * 6), ring_table((2,) * 6), quiet_table((8, 8), (2, 2)),
                 quiet_table((64,), (2,)), quiet_table((4, 4, 4), (2, 2, 2)), ring_table((2, 2, 2, 2, 1, 4)),

@@ -13,7 +13,7 @@ FOLDER = Path(__file__).resolve().parent.parent / "onestory"
 # Own modules stand behind what they import from and ahead of what imports from them.
 ORDER = ["errors", "shapes", "tables", "stories", "fine", "smaller", "barren", "counts", "mixed", "ones", "closings",
          "talks", "clocks", "rings", "walks", "homes", "sketches", "search", "every", "dooms", "ways", "memory",
-         "screens"]
+         "screens", "nears", "ties", "hitting", "stamps", "classes", "mixes", "turns", "renamings"]
 
 INTERFACE = {
     "tables": "sendings(sends) delivery(table,sending) changed(table,sending,room,note) ring_table(sizes) "
@@ -44,12 +44,27 @@ INTERFACE = {
             "is_crux(sketch,thing) story_fits(sketch,rules)",
     "screens": "screen(sketch,kept) is_screen(sketch,kept,thing) doom_within(sketch,kept) "
                "is_doom_within(sketch,kept,thing) least_kept(sketch)",
+    "nears": "near(table,many) is_near(table,many,thing) far_paper(table,many) is_far_paper(table,many,thing) "
+             "distance(table) nearest(table,most)",
+    "stamps": "is_stamp(table,thing) lock(table,cells) is_lock(table,cells,thing) other_fit(table,cells) "
+              "fewest_stamp(table) stamp(table) stamp_paper(table,many) is_stamp_paper(table,many,thing) needed(table)",
+    "classes": "rests(table,room) ties(table,room,one,other) chain(table,room,one,other) "
+               "is_chain(table,room,one,other,thing) classes(table,room) class_notes(table,room) "
+               "apart(table,room,one,other) is_apart(table,room,one,other,thing)",
+    "turns": "turned(table,room,notes) passed(table,turns) is_way(one,other,thing) hushed(table,rooms) "
+             "plain_way(one,other) mixed(one,other,mix) fewest_turns(one,other) short_way(one,other) "
+             "bar(one,other,number) is_bar(one,other,number,thing)",
+    "renamings": "is_renaming(sends,takes,thing) no_renaming(sends,takes) renamed_sizes(sends,takes,renaming) "
+                 "renaming_back(sends,takes,renaming) renaming_on(sends,takes,renaming,then) renamed(table,renaming) "
+                 "renamed_sending(table,renaming,sending) renamed_rules(table,renaming,rules) "
+                 "renamed_paper(table,renaming,paper) keeping_count(sends,takes) renamings(one,other) alike(one,other) "
+                 "likes(table) first_like(table)",
 }
 
 LIBRARY = {"math": ["gcd"], "itertools": ["combinations", "permutations"]}
 BUILTINS = """len range enumerate zip min max sum abs sorted reversed int str bool list tuple dict set isinstance
 all any ValueError super""".split()
-METHODS = "append extend get index items pop remove setdefault values __init__".split()
+METHODS = "append count extend get index items pop remove setdefault values __init__".split()
 # No attribute and no own method has the name of a method of the builtin values.
 TAKEN = [name for kind in (str, list, dict, tuple, int, bytes, set) for name in vars(kind) if not name.startswith("__")]
 STATEMENTS = (ast.FunctionDef, ast.ClassDef, ast.ImportFrom, ast.Assign, ast.AugAssign, ast.If, ast.While, ast.For,

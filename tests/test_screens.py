@@ -10,7 +10,7 @@ from onestory.ways import is_doom, some_fit
 from tests.samples import (OTHER_KINDS, Case, at_cell, blank_sketch, deep_value, every_cell, otherwise, partly_known,
                            plain_fits, random_sketch, same, spark_four, wrong_numbers, wrong_sketches)
 from tests.test_sketches import HALF, TALL, every_guess, plain_guess
-from tests.test_ways import DOOM, plain_doom, small_sketches
+from tests.test_ways import DOOM, A, B, plain_doom, small_sketches
 
 
 def plain_screen(sketch, kept):
@@ -175,6 +175,10 @@ class Screens(Case):
                     kept = "too many"
                 found[kept] = found.get(kept, 0) + 1
         self.assertTrue("too many" in found and 1 in found, found)
+        # A dead pair to begin with, but too many guesses of one pair.
+        wide = [(None,) * 6] * 64
+        wide[:2] = [(None,) * 5 + (0,), (None,) * 5 + (1,)]
+        self.assertEqual(self.refused(TooMany, least_kept, Sketch((2,) * 6, (64,) * 6, tuple(wide))).most, 20000)
 
     def test_wrong_values(self):
         wrong = [value for value in wrong_numbers(100)] + [0, 100]
@@ -247,6 +251,17 @@ class Judged(Case):
         self.judges(is_screen, (HALF, 1), [found], [list(found), found[1:], found[::-1], found + found[-1:], (), ((),),
                                                     screen(HALF, 1)[:3], (found,), {guess: True for guess in found}])
         self.judges(is_doom_within, (HALF, 2), [DOOM], [{}, {**DOOM, (): (2, ("own",))}, list(DOOM)])
+        # A key of two pairs that goes on is too long for two, and any key of two pairs is for one.
+        more = {**DOOM, ((A, 0), (B, 0)): (9, ("cell", ((0, 1), 1)))}
+        self.assertIs(is_doom(HALF, more), True)
+        self.assertIs(is_doom_within(HALF, 2, more), False)
+        self.assertIs(is_doom_within(HALF, 3, more), True)
+        dead = Sketch((2, 2), (2, 2), ((0, 0), (1, None), (None, 1), (None, 1)))
+        short = {(): (1, ("cell", A)), ((A, 0),): (0, ("pair", (0, 1), (1, 1))),
+                 ((A, 1),): (0, ("pair", (0, 0), (1, 1)))}
+        long = {**short, ((((1, 0), 0), 0), (A, 0)): (0, ("pair", (0, 1), (1, 1)))}
+        self.assertTrue(is_doom_within(dead, 1, short) and is_doom(dead, long) and is_doom_within(dead, 2, long))
+        self.assertIs(is_doom_within(dead, 1, long), False)
         self.judges(is_screen, (HALF, 2), [], OTHER_KINDS + [found, deep_value()])
         whole = Sketch((1,), (2,), ((1,),))
         self.judges(is_screen, (whole, 1), [((),)], [(), [()], ((), ()), ((((0,), 0), 1),)])

@@ -203,6 +203,8 @@ class Dooms(Case):
         self.assertIs(is_doom(quiet, {**DOOM, ((((0, 1), 1), 0),): (1, ("cell", A))}), False)
         self.assertIs(is_doom(quiet, {**DOOM, ((A, 0), (B, 0)): (9, ("cell", ((0, 1), 1)))}), True)
         self.assertIs(is_doom(quiet, {**DOOM, ((A, 0), (B, 0)): (9, ("cell", A))}), False)
+        # Nor may the cell be known in the sketch, though a lesser key is a part of this one.
+        self.assertIs(is_doom(quiet, {**DOOM, ((A, 0), (B, 0)): (9, ("cell", ((0, 0), 1)))}), False)
 
     def test_judged(self):
         wrong = [{}, {(): (0, ("cell", A))}, {(): DOOM[()]}, list(DOOM.items()), {((A, 0),): DOOM[(A, 0),]},
@@ -299,6 +301,12 @@ class Cruxes(Case):
         self.judges(is_crux, (HALF,), [HALF], wrong)
         self.judges(is_crux, (with_put(HALF, ((1, 1), 1), 1),), [HALF, crux(with_put(HALF, ((1, 1), 1), 1))],
                     [with_put(HALF, ((1, 1), 1), 1)])
+        # The same notes, but other sends.
+        none = None
+        tall = Sketch((4, 1), (2, 2), ((0, none), (1, none), (none, none), (none, none)))
+        flat = Sketch((2, 2), (2, 2), ((0, none), (none, none), (1, none), (none, none)))
+        self.assertEqual(crux(tall), tall)
+        self.judges(is_crux, (flat,), [flat], [tall])
         self.judges(is_crux, (TALL,), [], [TALL, blank_sketch((2,), (3,))] + OTHER_KINDS + [deep_value()])
 
 
