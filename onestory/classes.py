@@ -80,7 +80,7 @@ def apart(table, room, one, other):
     here = [at for at, lot in enumerate(lots) if one in lot][0]
     there = [at for at, lot in enumerate(lots) if other in lot][0]
     if notes[here] == notes[there]:
-        notes[there] = 1 - notes[here] if notes[here] < 2 else 0
+        notes[there] = 1 if notes[here] == 0 else 0
     return turned_table(table, room, notes)
 
 

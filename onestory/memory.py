@@ -56,8 +56,9 @@ class Memory:
         while stuck:
             for key, cell in stuck:
                 self.give_up(key, rank, ("cell", cell))
-            for key in [key for key in self.lasting if key not in self.gone]:
-                self.follow_parts(key)
+            for key in self.lasting:
+                if key not in self.gone:
+                    self.follow_parts(key)
             self.lasting = [key for key in self.lasting if key not in self.gone]
             rank += 1
             stuck = self.all_stuck()

@@ -90,7 +90,9 @@ def parted_bits(table, room):
     """The set of the pairs of sendings that the room parts, told by bits."""
     lines = [(sent[room], received[room]) for sent, received in zip(rows(table.sends), table.notes)]
     bits = 0
-    for at, (line, then) in enumerate(combinations(lines, 2)):
+    at = 0
+    for line, then in combinations(lines, 2):
         if line[0] != then[0] and line[1] == then[1]:
             bits = bits | 1 << at
+        at += 1
     return bits

@@ -80,7 +80,8 @@ def least_unlike(table):
     while least < most:
         # A low bound is easy if hardly anything must be changed, a middle one if much must be. Nobody knows which it
         # is, so both are tried, longer and longer.
-        for many in (least, (least + most) // 2):
+        bounds = (least, (least + most) // 2)
+        for many in bounds:
             search = search_near(table, many)
             search.tries = tries
             found = search.works_out([])

@@ -13,8 +13,6 @@ MOST_TURNS = 20
 
 def are_class_notes(table, room, thing):
     """Whether any value is a tuple with a note for each class of the room."""
-    if not isinstance(thing, tuple):
-        return False
     return is_row(thing, (table.takes[room],) * len(classes_of(table, room)))
 
 
@@ -136,11 +134,11 @@ def bar(one, other, number):
     need_number(one, other, number)
     mixes = Mixes(one, other)
     unsound = mixes.unsound()
-    if mixes.first_end(mixes.reached(unsound, number)) is not None:
+    found = mixes.reached(unsound, number)
+    if mixes.first_end(found) is not None:
         return None
-    # Each row has an unsound mix; the first one comes behind what is reached with less.
-    before = mixes.reached(unsound, number - 1) if number > 0 else {}
-    stops = sorted(set([more for mix in before for more in raised(mix) if more in unsound]))
+    # Each row that is not too long has an unsound mix, the first of which comes behind a mix that is reached.
+    stops = sorted(set([more for mix in found for more in raised(mix) if more in unsound]))
     return {mix: first_pair(mixed_table(one, other, mix)) for mix in stops}
 
 

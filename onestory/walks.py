@@ -34,7 +34,8 @@ def is_wheel(table, thing):
         return False
     if not all([is_row(sent, table.sends) for sent in thing]) or len(set(thing)) < len(thing):
         return False
-    return all([agree(one, other) for one, other in combinations(turns_of(table, thing), 2)])
+    lines = turns_of(table, thing)
+    return all([agree(one, other) for one, other in combinations(lines, 2)])
 
 
 def turns_of(table, wheel):

@@ -268,6 +268,13 @@ class Apart(Case):
         self.assertIs(is_apart(TURNING, 1, (0, 0), (0, 1), good), False)
         self.assertIs(is_apart(TURNING, 0, (0, 0), (1, 1), TURNING), False)
         self.assertTrue(is_fine(good))
+        # The same notes of the other room, but other sizes.
+        quiet = quiet_table((2, 2), (2, 2))
+        for value in [Table((1, 4), (2, 2), ((0, 0), (1, 0), (0, 0), (0, 0))),
+                      Table((2, 2), (3, 2), ((0, 0), (1, 0), (0, 0), (1, 0))),
+                      Table((2, 2), (2, 3), ((0, 0), (1, 0), (0, 0), (1, 0)))]:
+            self.assertIs(is_apart(quiet, 0, (0,), (1,), value), False)
+        self.assertIs(is_apart(quiet, 0, (0,), (1,), Table((2, 2), (2, 2), ((0, 0), (1, 0), (0, 0), (1, 0)))), True)
         wide = Table((2,), (3,), ((0,), (0,)))
         self.assertIs(is_apart(wide, 0, (), (), wide), False)
 

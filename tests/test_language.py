@@ -237,6 +237,17 @@ class Words(unittest.TestCase):
                 if isinstance(node, ast.Call) and isinstance(node.func, ast.Name) and node.func.id == "set":
                     self.assertIn(node, inside, name)
 
+    def test_combinations_are_iterated_on_the_spot(self):
+        for name, tree in modules().items():
+            at_once = [node.iter for node in ast.walk(tree) if isinstance(node, (ast.For, ast.comprehension))]
+            at_once += [node.args[0] for node in ast.walk(tree) if isinstance(node, ast.Call) and node.args
+                        and isinstance(node.func, ast.Name) and node.func.id in ("list", "tuple", "sorted")]
+            for node in ast.walk(tree):
+                if isinstance(node, ast.Call) and getattr(node.func, "id", "") in ("combinations", "permutations"):
+                    self.assertIn(node, at_once, (name, node.lineno))
+                    first = node.args[0]
+                    self.assertTrue(isinstance(first, ast.Name) or first.func.id == "range", (name, node.lineno))
+
     def test_no_class_has_the_name_of_a_variable(self):
         for tree in modules().values():
             classes = [node.name for node in ast.walk(tree) if isinstance(node, ast.ClassDef)]

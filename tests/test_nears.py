@@ -178,6 +178,7 @@ class Nears(Case):
         self.assertIs(is_near(table=quiet, many=0, thing=quiet), True)
         for value in OTHER_KINDS + [quiet_table((2, 2), (2, 3)), quiet_table((4,), (2,)), quiet_table((2, 2), (2, 1)),
                                     Sketch((2, 2), (2, 2), quiet.notes), quiet_table((2, 2, 1), (2, 2, 2)),
+                                    quiet_table((4, 1), (2, 2)), quiet_table((1, 4), (2, 2)),
                                     deep_value()]:
             self.assertIs(is_near(quiet, 99, value), False)
 

@@ -263,6 +263,10 @@ class Judged(Case):
     def test_stamp_papers_judged(self):
         paper = stamp_paper(LED, 1)
         self.judges(is_stamp_paper, (LED, 1), [paper], [{}, list(paper), {(): LED}, {(): RING}, {(): None}, {(): ()}])
+        for value in [Table((1, 4), (2, 2), ((0, 0), (1, 0), (0, 0), (0, 0))), quiet_table((2, 2), (2, 3)),
+                      quiet_table((4, 1), (2, 2)), Table((2, 2), (3, 2), ((2, 0),) * 4)]:
+            self.assertTrue(plain_fine(value))
+            self.assertIs(is_stamp_paper(QUIET, 0, {(): value}), False)
         self.judges(is_stamp_paper, (LED, 0), [stamp_paper(LED, 0)], [paper] + OTHER_KINDS + [deep_value()])
         self.assertEqual(guessed(sketch_of(LED, THREE), ()), sketch_of(LED, THREE))
         self.assertEqual(len(open_cells(sketch_of(LED, THREE))), 5)
