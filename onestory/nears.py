@@ -31,12 +31,31 @@ def unlike_cells(one, other):
     return len([1 for here, there in zip(one.notes, other.notes) for note, told in zip(here, there) if note != told])
 
 
+def searched_near(table, many):
+    """Whether a fine table is so near, and the search that found it, or that came to nothing with so many changes."""
+    least = 0
+    tries = FIRST_TRIES
+    while True:
+        # If a fine table is much nearer than asked for, it is sooner found with a low bound. Nobody knows, so both are
+        # tried, longer and longer.
+        bounds = (least, many)
+        for bound in bounds:
+            search = search_near(table, bound)
+            search.tries = tries
+            found = search.works_out([])
+            if found or found is False and bound == many:
+                return (found, search)
+            if found is False:
+                least = bound + 1
+        tries = tries * 2
+
+
 def near(table, many):
     """A fine table that differs from the table in at most so many cells, None if there is none."""
     need_table(table)
     need_many(many)
-    search = search_near(table, many)
-    return search.fit() if search.works_out([]) else None
+    found, search = searched_near(table, many)
+    return search.fit() if found else None
 
 
 def is_near(table, many, thing):
@@ -52,8 +71,8 @@ def far_paper(table, many):
     """A far paper of the table, None if a fine table is near."""
     need_table(table)
     need_many(many)
-    search = search_near(table, many)
-    return None if search.works_out([]) else doom_of(search)
+    found, search = searched_near(table, many)
+    return None if found else doom_of(search)
 
 
 def is_far_paper(table, many, thing):
@@ -78,8 +97,7 @@ def least_unlike(table):
     most = constant_unlike(table)
     tries = FIRST_TRIES
     while least < most:
-        # A low bound is easy if hardly anything must be changed, a middle one if much must be. Nobody knows which it
-        # is, so both are tried, longer and longer.
+        # A low bound is easy if hardly anything must be changed, a middle one if much must be.
         bounds = (least, (least + most) // 2)
         for many in bounds:
             search = search_near(table, many)

@@ -205,6 +205,11 @@ class Nears(Case):
         other = changed(led, (0,) * 6, 0, 1 - led.notes[0][0])
         self.assertEqual(distance(other), 1)
         self.assertIn(led, nearest(other, 20000))
+        # Many more changes than are needed.
+        for many in (1, 20, 99):
+            self.assertTrue(is_near(other, many, near(other, many)))
+            self.assertIsNone(far_paper(other, many))
+        self.assertIs(is_far_paper(other, 0, far_paper(other, 0)), True)
 
 
 class FarPapers(Case):
