@@ -77,7 +77,8 @@ class Others:
             lots = self.lots_without(chosen)
             if not lots:
                 return tuple(sorted(chosen))
-            left = sorted([(len(lot), lot) for lot in [less_by(lot, barred) for lot in lots]])
+            allowed = [less_by(lot, barred) for lot in lots]
+            left = sorted([(len(lot), lot) for lot in allowed])
             if hits_needed([lot for _, lot in left]) <= many - len(chosen):
                 best = left[0][1]
                 # Once all is tried with a cell it need not be tried again.
