@@ -21,7 +21,7 @@ class Others:
     """Fine tables other than this one, each told by the lot of the cells in which it differs."""
 
     def __init__(self, table):
-        self.table = table
+        self.given = table
         self.cells = all_cells(table)
         self.tables = {}
         self.lots = []
@@ -31,10 +31,10 @@ class Others:
 
     def find_turned(self, room):
         """Keeps tables in which the notes of the room are turned in one class."""
-        notes = [note_at_rest(self.table, room, lot[0]) for lot in classes_of(self.table, room)]
+        notes = [note_at_rest(self.given, room, lot[0]) for lot in classes_of(self.given, room)]
         for at, note in enumerate(notes):
             other = 1 if note == 0 else 0
-            self.keep(turned_table(self.table, room, notes[:at] + [other] + notes[at + 1:]))
+            self.keep(turned_table(self.given, room, notes[:at] + [other] + notes[at + 1:]))
 
     def keep(self, other):
         """Keeps a table; its lot."""
@@ -47,17 +47,17 @@ class Others:
 
     def lot_of(self, other):
         """The lot of the cells in which a table differs from this one."""
-        return tuple([at for at, cell in enumerate(self.cells) if note_in(self.table, cell) != note_in(other, cell)])
+        return tuple([at for at, cell in enumerate(self.cells) if note_in(self.given, cell) != note_in(other, cell)])
 
     def find_other(self, chosen):
         """Keeps a table with the notes of this one in all chosen cells; its lot, None if there is none."""
         found = None
-        search = another_fit(self.table, [self.cells[at] for at in sorted(chosen)])
+        search = another_fit(self.given, [self.cells[at] for at in sorted(chosen)])
         # At first any such table will do; then each time one that is nearer.
         while search.works_out([]):
             found = search.fit()
-            search = another_fit(self.table, [self.cells[at] for at in sorted(chosen)])
-            search.near_to(self.table, len(self.lot_of(found)) - 1)
+            search = another_fit(self.given, [self.cells[at] for at in sorted(chosen)])
+            search.near_to(self.given, len(self.lot_of(found)) - 1)
         return None if found is None else self.keep(found)
 
     def lots_without(self, chosen):

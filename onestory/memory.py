@@ -91,7 +91,7 @@ class Memory:
 def unknown_cells(search, key):
     """The ascending list of the cells that are unknown with this guess."""
     told = dict(key)
-    return [cell for cell, free in enumerate(search.free) if free and cell not in told]
+    return [cell for cell, unknown in enumerate(search.unknown) if unknown and cell not in told]
 
 
 def parts(key):

@@ -171,7 +171,7 @@ def room_orders(sends, takes):
 
 
 def count_keeping(sends, takes):
-    return len(room_orders(sends, takes)) * multiplied([multiplied(range(1, size + 1)) for size in sends + takes])
+    return len(room_orders(sends, takes)) * multiplied([multiplied(list(range(1, size + 1))) for size in sends + takes])
 
 
 def keeping_count(sends, takes):

@@ -20,7 +20,7 @@ class Search:
         self.takes = sketch.takes
         self.rooms = len(sketch.sends)
         self.note = [note for received in sketch.notes for note in received]
-        self.free = [note is None for note in self.note]
+        self.unknown = [note is None for note in self.note]
         # For each cell the notes that it cannot have, each with the reason.
         self.barred = [{} for _ in self.note]
         # What was done, one after another: a cell and None where it was put, a cell and a note that was barred.
@@ -55,9 +55,9 @@ class Search:
         for (at, one), (to, other) in combinations(lines, 2):
             both = [(at * self.rooms + room, to * self.rooms + room) for room in range(self.rooms)
                     if one[room] != other[room]]
-            if [1 for here, there in both if not self.free[here] and self.note[here] == self.note[there]]:
+            if [1 for here, there in both if not self.unknown[here] and self.note[here] == self.note[there]]:
                 continue
-            both = [(here, there) for here, there in both if self.free[here] or self.free[there]]
+            both = [(here, there) for here, there in both if self.unknown[here] or self.unknown[there]]
             for here, there in both:
                 self.pairs_of[here].append(len(self.pairs))
                 self.pairs_of[there].append(len(self.pairs))
@@ -85,8 +85,8 @@ class Search:
             clash = self.bar(cell, note, ("out", 0))
             if clash is not None:
                 return clash
-        for cell, free in enumerate(self.free):
-            if free and self.note[cell] is None and self.takes_of(cell) == 1:
+        for cell, unknown in enumerate(self.unknown):
+            if unknown and self.note[cell] is None and self.takes_of(cell) == 1:
                 self.fill(cell, 0)
         for pair in range(len(self.pairs)):
             clash = self.look_at(pair)
@@ -155,7 +155,7 @@ class Search:
         if self.unlike < self.most:
             return None
         base = [(cell, note) for cell, note in enumerate(self.note)
-                if self.free[cell] and note is not None and note != self.home[cell]]
+                if self.unknown[cell] and note is not None and note != self.home[cell]]
         if self.unlike > self.most:
             return self.key_of(None, None, ("far", tuple(base)))
         for cell, note in enumerate(self.home):
@@ -226,9 +226,9 @@ class Search:
             for other, there in thing:
                 told[other] = there
         if word == "own":
-            told = {other: there for other, there in enumerate(self.note) if self.free[other]}
+            told = {other: there for other, there in enumerate(self.note) if self.unknown[other]}
         if word == "pair":
-            for other in [end for couple in self.pairs[thing] for end in couple if self.free[end]]:
+            for other in [end for couple in self.pairs[thing] for end in couple if self.unknown[end]]:
                 told[other] = told.get(other, self.note[other])
         return self.noted(told, 0, why, [])
 

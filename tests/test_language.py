@@ -101,6 +101,15 @@ def bound(tree):
     return found + [node.name for node in ast.walk(tree) if isinstance(node, (ast.FunctionDef, ast.ClassDef))]
 
 
+def is_lazy(node):
+    """Whether it is a call of what is iterated at once: it is neither stored nor passed on."""
+    if not isinstance(node, ast.Call):
+        return False
+    if isinstance(node.func, ast.Attribute):
+        return node.func.attr in ("items", "keys", "values")
+    return getattr(node.func, "id", "") in ("range", "zip", "enumerate", "reversed")
+
+
 class Interface(unittest.TestCase):
     def test_names_and_parameters(self):
         for name, listed in INTERFACE.items():
@@ -237,6 +246,27 @@ class Words(unittest.TestCase):
                 if isinstance(node, ast.Call) and isinstance(node.func, ast.Name) and node.func.id == "set":
                     self.assertIn(node, inside, name)
 
+    def test_ranges_and_views_are_iterated_on_the_spot(self):
+        takers = "list tuple dict sorted sum any all enumerate zip min max combinations permutations product".split()
+        for name, tree in modules().items():
+            at_once = [node.iter for node in ast.walk(tree) if isinstance(node, (ast.For, ast.comprehension))]
+            at_once += [given for node in ast.walk(tree) if isinstance(node, ast.Call)
+                        and getattr(node.func, "id", "") in takers for given in node.args]
+            at_once += [node.comparators[0] for node in ast.walk(tree) if isinstance(node, ast.Compare)
+                        and isinstance(node.ops[0], (ast.In, ast.NotIn))]
+            kept = [node for node in ast.walk(tree) if isinstance(node, ast.Assign) and is_lazy(node.value)]
+            for node in kept:
+                self.assertEqual((node.value.func.id, node.targets[0].__class__), ("range", ast.Name), (name, node.lineno))
+            at_once += [node.value for node in kept]
+            for node in ast.walk(tree):
+                if is_lazy(node):
+                    self.assertTrue(node in at_once, (name, node.lineno))
+            for step in [node for node in ast.walk(tree) if isinstance(node, ast.FunctionDef)]:
+                words = [node.targets[0].id for node in ast.walk(step) if node in kept]
+                for node in ast.walk(step):
+                    if isinstance(node, ast.Name) and isinstance(node.ctx, ast.Load) and node.id in words:
+                        self.assertTrue(node in at_once, (name, node.lineno))
+
     def test_combinations_are_iterated_on_the_spot(self):
         for name, tree in modules().items():
             at_once = [node.iter for node in ast.walk(tree) if isinstance(node, (ast.For, ast.comprehension))]
@@ -244,7 +274,7 @@ class Words(unittest.TestCase):
                         and isinstance(node.func, ast.Name) and node.func.id in ("list", "tuple", "sorted")]
             for node in ast.walk(tree):
                 if isinstance(node, ast.Call) and getattr(node.func, "id", "") in ("combinations", "permutations"):
-                    self.assertIn(node, at_once, (name, node.lineno))
+                    self.assertTrue(node in at_once, (name, node.lineno))
                     first = node.args[0]
                     self.assertTrue(isinstance(first, ast.Name) or first.func.id == "range", (name, node.lineno))
 
