@@ -64,15 +64,19 @@ def shortest_chain(rests, layers, one, other):
 
 def leads(rests, layers, one, other, thing):
     """Whether any value is a list of links that lead from one rest to the other."""
+    return chain_end(rests, layers, one, thing) == other
+
+
+def chain_end(rests, layers, one, thing):
+    """The rest to which any value leads from one as a list of links; None if it is none."""
     if not isinstance(thing, (list, tuple)):
-        return False
+        return None
     here = one
     for link in thing:
-        there = link_end(rests, layers, here, link)
-        if there is None:
-            return False
-        here = there
-    return here == other
+        here = link_end(rests, layers, here, link)
+        if here is None:
+            return None
+    return here
 
 
 def link_end(rests, layers, here, thing):

@@ -4,6 +4,7 @@ import random
 import unittest
 from itertools import product
 
+from onestory.chances import Chances
 from onestory.sketches import Sketch
 from onestory.tables import Table, quiet_table, ring_table, turning_table
 
@@ -171,6 +172,24 @@ def some_tables(many, seed=1):
 
 def fine_tables(many, seed=1):
     return [table for table in some_tables(many, seed) if plain_fine(table)]
+
+
+CHANCES_SIZES = [((2,), (2,)), ((3,), (2,)), ((2, 2), (2, 2)), ((2, 1), (2, 2)), ((2, 3), (2, 2)), ((1, 1), (2, 2)),
+                 ((2, 2, 2), (2, 2, 1)), ((2, 2, 2), (2, 2, 2))]
+
+
+def random_chances(draw, sizes=None):
+    """Chances of any kind, which are hardly ever fair."""
+    sends, takes = sizes or draw.choice(CHANCES_SIZES)
+    total = draw.choice((1, 2, 3, 6))
+    weights = []
+    for _ in rows(sends):
+        line = {}
+        for _ in range(total):
+            received = tuple(draw.randrange(size) for size in takes)
+            line[received] = line.get(received, 0) + 1
+        weights.append(tuple(sorted(line.items())))
+    return Chances(sends, takes, tuple(weights))
 
 
 OTHER_KINDS = [None, True, False, "", "0", "first", (), [], {}, (None,), [[]], {0: 0}, {True: 1}, {"a": ()}, -1,

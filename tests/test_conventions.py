@@ -3,8 +3,10 @@
 import unittest
 from copy import deepcopy
 
-from onestory import (barren, classes, clocks, closings, counts, fine, homes, mixed, nears, ones, renamings, rings,
-                      screens, sketches, stamps, stories, tables, talks, turns, walks, ways)
+from onestory import (asking, backwards, barren, building, chances, classes, clocks, closings, counts, fine, homes,
+                      listing, mixed, nears, ones, renamings, rings, screens, sketches, stamps, stories, tables, talks,
+                      telling, turns, walks, ways)
+from onestory.chances import Chances
 from onestory.sketches import Sketch
 from onestory.tables import Table, quiet_table, ring_table, turning_table
 from tests.test_language import INTERFACE
@@ -26,6 +28,15 @@ FIT = Table((2,), (3,), ((2,), (2,)))
 DOOM = {(): (1, ("cell", ((1, 1), 0))), ((((1, 1), 0), 0),): (0, ("pair", (0, 1), (1, 1))),
         ((((1, 1), 0), 1),): (0, ("pair", (0, 0), (1, 1)))}
 CLOCK = ("first", 1, 0, (("first", 0, 0, (("done",), ("done",))),))
+
+ZERO = Table((2,), (2,), ((0,), (0,)))
+ONE = Table((2,), (2,), ((1,), (1,)))
+HOUSE = Table((2, 1), (1, 2), ((0, 1), (0, 0)))
+ASKED = [LED, CROSS, quiet_table((2, 2), (2, 2))]
+WHICH = ("which",)
+BREAKER = Table((2, 2), (2, 2), ((0, 1),) * 4)
+BLEND = [(2, LED), (1, RING)]
+BLENDED = chances.blended(BLEND)
 
 CALLS = [
     (tables.sendings, {"sends": (2, 3)}), (tables.delivery, {"table": TURNING, "sending": (0, 1, 0)}),
@@ -133,13 +144,53 @@ CALLS = [
     (renamings.keeping_count, {"sends": (2, 2), "takes": (2, 2)}), (renamings.renamings, {"one": LED, "other": CROSS}),
     (renamings.alike, {"one": LED, "other": CROSS}), (renamings.likes, {"table": LED}),
     (renamings.first_like, {"table": LED}),
+    (listing.layers_of, {"table": TURNING, "room": 1}), (listing.layer_classes, {"layers": (ZERO, ONE)}),
+    (listing.room_in, {"layers": (ZERO, ONE), "place": 0, "take": 3, "notes": (2,)}),
+    (listing.wished, {"layers": (ZERO, ZERO), "place": 0, "take": 3, "wishes": {(1,): 2, (0,): 1}}),
+    (listing.wish_chain, {"layers": (ZERO, ONE), "take": 3, "wishes": {(1,): 2, (0,): 1}}),
+    (listing.is_wished, {"layers": (ZERO, ZERO), "place": 1, "take": 2, "wishes": {(1,): 1, (0,): 0}, "thing": Table(
+        (2, 2), (2, 2), ((0, 0), (0, 0), (0, 1), (0, 1)))}),
+    (listing.is_wish_chain, {"layers": (ZERO, ONE), "take": 2, "wishes": {(1,): 1, (0,): 0},
+                             "thing": ((0,), [(0, 1, (1,))])}),
+    (listing.fine_count, {"sends": (2, 2), "takes": (2, 3)}), (listing.fine_tables, {"sends": (2, 2), "takes": (1, 2)}),
+    (listing.kinds, {"sends": (2, 2), "takes": (2, 2)}), (building.beside, {"first": RING, "second": QUIET}),
+    (building.pieces, {"table": RING}), (building.piece_tables, {"table": QUIET}),
+    (building.split, {"table": quiet_table((6,), (2,)), "room": 0, "one": 2, "other": 3}),
+    (building.glued, {"table": QUIET, "room": 0}), (building.inside, {"table": TURNING, "team": (0, 2), "rest": (1,)}),
+    (building.replaced, {"table": TURNING, "team": (0, 2), "rest": (1,), "inner": RING}),
+    (building.is_free, {"table": quiet_table((2, 2), (2, 2)), "team": (0,), "rest": (1,)}),
+    (building.free_teams, {"table": LED}), (building.breaker, {"table": TURNING, "team": (0, 2), "rest": (1,)}),
+    (building.is_breaker, {"table": TURNING, "team": (0, 2), "rest": (0,), "thing": BREAKER}),
+    (building.nested, {"table": LED, "room": 1, "house": HOUSE}),
+    (building.two_doors, {"table": LED, "room": 1, "rule": (1, 0)}), (backwards.opened, {"table": ZERO}),
+    (backwards.is_two_way, {"table": RING}), (backwards.backwards, {"table": RING}),
+    (telling.checking_rules, {"table": TURNING, "sending": (0, 1, 0)}),
+    (telling.is_checking, {"table": LED, "sending": (0, 1), "thing": ((0, 1), (1, 0))}),
+    (telling.telling_rules, {"one": LED, "other": CROSS}),
+    (telling.is_telling, {"one": LED, "other": CROSS, "thing": ((1, 0), (0, 1))}),
+    (telling.same_stories, {"one": LED, "other": CROSS}),
+    (asking.reply, {"tables": ASKED, "aim": WHICH, "index": 1, "question": BOTH}),
+    (asking.settled_lots, {"tables": ASKED, "aim": ("story", BOTH)}),
+    (asking.asking_tree, {"tables": ASKED, "aim": WHICH}),
+    (asking.fewest_asked, {"tables": ASKED, "aim": WHICH}),
+    (asking.is_asking_tree, {"tables": ASKED, "aim": WHICH, "number": 2, "thing": asking.asking_tree(ASKED, WHICH)}),
+    (asking.asking_ranks, {"tables": ASKED, "aim": WHICH, "number": 1}),
+    (asking.are_asking_ranks, {"tables": ASKED, "aim": WHICH, "number": 1,
+                               "thing": asking.asking_ranks(ASKED, WHICH, 1)}),
+    (chances.Chances, {"sends": (1,), "takes": (2,), "weights": ((((0,), 1), ((1,), 1)),)}),
+    (chances.blended, {"blend": BLEND}), (chances.odd_ring, {"rooms": 3}),
+    (chances.weight, {"chances": BLENDED, "sending": (1, 1), "delivery": (0, 1)}),
+    (chances.cells, {"chances": BLENDED}),
+    (chances.story_weights, {"chances": BLENDED, "rules": BOTH}), (chances.tally, {"chances": BLENDED, "rules": BOTH}),
 ]
 
 
 def copied(thing):
-    """The same value, down to the kinds of what is in it; a Table or a Sketch as what it is made of."""
+    """The same value, down to the kinds of what is in it; a Table and the like as what it is made of."""
     if isinstance(thing, (Table, Sketch)):
         return (thing.__class__, thing.sends, thing.takes, thing.notes)
+    if isinstance(thing, Chances):
+        return (thing.__class__, thing.sends, thing.takes, thing.weights, thing.total)
     return deepcopy(thing)
 
 

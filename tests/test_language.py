@@ -13,7 +13,8 @@ FOLDER = Path(__file__).resolve().parent.parent / "onestory"
 # Own modules stand behind what they import from and ahead of what imports from them.
 ORDER = ["errors", "shapes", "tables", "stories", "fine", "smaller", "barren", "counts", "mixed", "ones", "closings",
          "talks", "clocks", "rings", "walks", "homes", "sketches", "search", "every", "dooms", "ways", "memory",
-         "screens", "nears", "ties", "hitting", "stamps", "classes", "mixes", "turns", "renamings"]
+         "screens", "nears", "ties", "hitting", "stamps", "classes", "mixes", "turns", "renamings", "listing",
+         "building", "backwards", "telling", "asking", "chances"]
 
 INTERFACE = {
     "tables": "sendings(sends) delivery(table,sending) changed(table,sending,room,note) ring_table(sizes) "
@@ -59,12 +60,28 @@ INTERFACE = {
                  "renamed_sending(table,renaming,sending) renamed_rules(table,renaming,rules) "
                  "renamed_paper(table,renaming,paper) keeping_count(sends,takes) renamings(one,other) alike(one,other) "
                  "likes(table) first_like(table)",
+    "listing": "layers_of(table,room) layer_classes(layers) room_in(layers,place,take,notes) "
+               "wished(layers,place,take,wishes) wish_chain(layers,take,wishes) "
+               "is_wished(layers,place,take,wishes,thing) is_wish_chain(layers,take,wishes,thing) "
+               "fine_count(sends,takes) fine_tables(sends,takes) kinds(sends,takes)",
+    "building": "beside(first,second) pieces(table) piece_tables(table) split(table,room,one,other) glued(table,room) "
+                "inside(table,team,rest) replaced(table,team,rest,inner) is_free(table,team,rest) free_teams(table) "
+                "breaker(table,team,rest) is_breaker(table,team,rest,thing) nested(table,room,house) "
+                "two_doors(table,room,rule)",
+    "backwards": "opened(table) is_two_way(table) backwards(table)",
+    "telling": "checking_rules(table,sending) is_checking(table,sending,thing) telling_rules(one,other) "
+               "is_telling(one,other,thing) same_stories(one,other)",
+    "asking": "reply(tables,aim,index,question) settled_lots(tables,aim) asking_tree(tables,aim) "
+              "fewest_asked(tables,aim) is_asking_tree(tables,aim,number,thing) asking_ranks(tables,aim,number) "
+              "are_asking_ranks(tables,aim,number,thing)",
+    "chances": "Chances(sends,takes,weights) blended(blend) odd_ring(rooms) weight(chances,sending,delivery) "
+               "cells(chances) story_weights(chances,rules) tally(chances,rules)",
 }
 
 LIBRARY = {"math": ["gcd"], "itertools": ["combinations", "permutations"]}
 BUILTINS = """len range enumerate zip min max sum abs sorted reversed int str bool list tuple dict set isinstance
 all any ValueError super""".split()
-METHODS = "append count extend get index items pop remove setdefault values __init__".split()
+METHODS = "append count extend get index insert items pop remove setdefault values __init__".split()
 # No attribute and no own method has the name of a method of the builtin values.
 TAKEN = [name for kind in (str, list, dict, tuple, int, bytes, set) for name in vars(kind) if not name.startswith("__")]
 STATEMENTS = (ast.FunctionDef, ast.ClassDef, ast.ImportFrom, ast.Assign, ast.AugAssign, ast.If, ast.While, ast.For,
@@ -110,6 +127,12 @@ def is_lazy(node):
     return getattr(node.func, "id", "") in ("range", "zip", "enumerate", "reversed")
 
 
+def passed_to(tree, words):
+    """All that is passed to the functions of these names."""
+    return [given for node in ast.walk(tree) if isinstance(node, ast.Call) and getattr(node.func, "id", "") in words
+            for given in node.args]
+
+
 class Interface(unittest.TestCase):
     def test_names_and_parameters(self):
         for name, listed in INTERFACE.items():
@@ -130,6 +153,7 @@ class Interface(unittest.TestCase):
     def test_equality_stands_in_the_class_itself(self):
         self.assertIn("__eq__", vars(import_module("onestory.tables").Table))
         self.assertIn("__eq__", vars(import_module("onestory.sketches").Sketch))
+        self.assertIn("__eq__", vars(import_module("onestory.chances").Chances))
 
     def test_the_package_itself_defines_nothing(self):
         self.assertEqual(ast.parse((FOLDER / "__init__.py").read_text()).body, [])
@@ -247,20 +271,20 @@ class Words(unittest.TestCase):
                     self.assertIn(node, inside, name)
 
     def test_ranges_and_views_are_iterated_on_the_spot(self):
-        takers = "list tuple dict sorted sum any all enumerate zip min max combinations permutations product".split()
+        takers = "list tuple dict sorted sum any all enumerate zip min max".split()
         for name, tree in modules().items():
             at_once = [node.iter for node in ast.walk(tree) if isinstance(node, (ast.For, ast.comprehension))]
-            at_once += [given for node in ast.walk(tree) if isinstance(node, ast.Call)
-                        and getattr(node.func, "id", "") in takers for given in node.args]
+            at_once += passed_to(tree, takers)
+            # A range that is kept is neither looked into by these, nor stored again.
+            at_once += [node for node in passed_to(tree, LIBRARY["itertools"]) if is_lazy(node)]
             at_once += [node.comparators[0] for node in ast.walk(tree) if isinstance(node, ast.Compare)
                         and isinstance(node.ops[0], (ast.In, ast.NotIn))]
             kept = [node for node in ast.walk(tree) if isinstance(node, ast.Assign) and is_lazy(node.value)]
             for node in kept:
-                self.assertEqual((node.value.func.id, node.targets[0].__class__), ("range", ast.Name), (name, node.lineno))
-            at_once += [node.value for node in kept]
+                self.assertTrue(node.value.func.id == "range" and isinstance(node.targets[0], ast.Name), name)
             for node in ast.walk(tree):
                 if is_lazy(node):
-                    self.assertTrue(node in at_once, (name, node.lineno))
+                    self.assertTrue(node in at_once + [step.value for step in kept], (name, node.lineno))
             for step in [node for node in ast.walk(tree) if isinstance(node, ast.FunctionDef)]:
                 words = [node.targets[0].id for node in ast.walk(step) if node in kept]
                 for node in ast.walk(step):
