@@ -4,8 +4,8 @@ from onestory.closings import need_others
 from onestory.errors import BadLayers, BadNotes, BadPlace, BadTake, BadWishes, TooMany
 from onestory.fine import is_fine, need_fine
 from onestory.renamings import need_few, need_sizes, notes_alike
-from onestory.shapes import (MOST_NUMBERS, MOST_ROOMS, MOST_SENDINGS, is_below, is_number, is_row, joined, multiplied,
-                             powered, rows, without)
+from onestory.shapes import (MOST_NUMBERS, MOST_ROOMS, MOST_SENDINGS, bits_by, is_below, is_number, is_row, joined,
+                             multiplied, powered, rows, without)
 from onestory.smaller import held_table
 from onestory.tables import Table, brought, need_room, need_table
 from onestory.ties import all_classes, chain_end, note_at_rest, shortest_chain
@@ -229,14 +229,6 @@ def all_tied_bits(tables):
     sending = [bits_by(rests, room) for room in range(len(rests[0]))]
     received = [[bits_by(table.notes, room) for room in range(len(rests[0]))] for table in tables]
     return [[tied_bits(rests, table.notes, sending, notes) for notes in received] for table in tables]
-
-
-def bits_by(lines, room):
-    """For each number that stands at the room in some lines the set of these, told by bits."""
-    found = {}
-    for at, line in enumerate(lines):
-        found[line[room]] = found.get(line[room], 0) | 1 << at
-    return found
 
 
 def tied_bits(rests, notes, sending, received):

@@ -83,3 +83,11 @@ def without(room, row):
 def joined(room, number, rest):
     """The row in which this room has the number and the others the rest."""
     return rest[:room] + (number,) + rest[room:]
+
+
+def bits_by(lines, room):
+    """For each number that stands at the room in some lines the set of these, told by bits."""
+    found = {}
+    for at, line in enumerate(lines):
+        found[line[room]] = found.get(line[room], 0) | 1 << at
+    return found

@@ -245,6 +245,11 @@ def wrong_tables(table):
     return [None, True, 0, "table", (table.sends, table.takes, table.notes), [table], (table,), {}, deep_value()]
 
 
+def wrong_chances(chances):
+    return [None, True, 0, "chances", (), [chances], (chances,), (chances.sends, chances.takes, chances.weights),
+            ZERO_ALWAYS, {}, deep_value()]
+
+
 def wired_table(draw, sends, takes, wires):
     """Each room receives some function of what the rooms send that wires tell for it."""
     known = {}

@@ -7,18 +7,14 @@ from onestory.errors import (BadBlend, BadChances, BadDelivery, BadRooms, BadRul
                              BadWeights)
 from onestory.tables import Table, quiet_table, ring_table, turning_table
 from tests.samples import (ZERO_ALWAYS, Case, brings, deep_value, every_rules, plain_stories, random_chances,
-                           random_rules, random_table, rows, same, wrong_rows, wrong_rules, wrong_sendings,
-                           wrong_tables)
+                           random_rules, random_table, rows, same, wrong_chances, wrong_rows, wrong_rules,
+                           wrong_sendings, wrong_tables)
 
 RING = ring_table((2, 2))
 QUIET = quiet_table((2, 2), (2, 2))
 TURNING = turning_table()
 WEIGHTS = ((((0, 0), 3), ((1, 0), 3)), (((0, 1), 6),), (((0, 0), 1), ((0, 1), 2), ((1, 1), 3)), (((1, 1), 6),))
 SOME = Chances((2, 2), (2, 2), WEIGHTS)
-
-
-def wrong_chances():
-    return [None, True, 0, (), [SOME], (SOME.sends, SOME.takes, SOME.weights), QUIET, {}, deep_value()]
 
 
 def wrong_weights():
@@ -153,7 +149,7 @@ class Weights(Case):
         self.assertEqual(tally(odd_ring(3), ((0, 1),) * 3), 2)
 
     def test_wrong_values(self):
-        chances = {"chances": (BadChances, wrong_chances())}
+        chances = {"chances": (BadChances, wrong_chances(SOME))}
         self.refuses(weight, {"chances": SOME, "sending": (0, 1), "delivery": (1, 1)}, {
             **chances, "sending": (BadSending, wrong_sendings(QUIET)), "delivery": (BadDelivery, wrong_rows((2, 2)))})
         self.refuses(cells, {"chances": SOME}, chances)

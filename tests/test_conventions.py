@@ -3,9 +3,9 @@
 import unittest
 from copy import deepcopy
 
-from onestory import (asking, backwards, barren, building, chances, classes, clocks, closings, counts, fine, homes,
-                      listing, mixed, nears, ones, renamings, rings, screens, sketches, stamps, stories, tables, talks,
-                      telling, turns, walks, ways)
+from onestory import (asking, backwards, barren, building, chances, classes, clocks, closings, counts, fairness, fine,
+                      homes, house, leads, listing, mixed, mixtures, nears, ones, rebuilding, renamings, rings, screens,
+                      sketches, stamps, stories, tables, talks, telling, texts, turns, walks, ways)
 from onestory.chances import Chances
 from onestory.sketches import Sketch
 from onestory.tables import Table, quiet_table, ring_table, turning_table
@@ -37,6 +37,15 @@ WHICH = ("which",)
 BREAKER = Table((2, 2), (2, 2), ((0, 1),) * 4)
 BLEND = [(2, LED), (1, RING)]
 BLENDED = chances.blended(BLEND)
+BOTH_LED = chances.blended([(2, LED), (1, CROSS)])
+ENDS = ((0, 0, 0), (1, 1, 1))
+ALWAYS = [((0, 0),) * 3, ((1, 1),) * 3]
+LEADS = {"table": TURNING, "safe": ENDS, "start": ALWAYS[0], "goal": ALWAYS[1]}
+BUILT = {"one": quiet_table((2, 2), (1, 1)), "other": quiet_table((2, 2), (1, 1)), "safe": ((0, 0), (1, 1)),
+         "start": ((0,), (0,)), "goal": ((1,), (1,))}
+LIVED = house.House(TURNING)
+LIVED.bind({2: (0, 1), 0: (1, 1)})
+LIVED.guard(None)
 
 CALLS = [
     (tables.sendings, {"sends": (2, 3)}), (tables.delivery, {"table": TURNING, "sending": (0, 1, 0)}),
@@ -182,6 +191,33 @@ CALLS = [
     (chances.weight, {"chances": BLENDED, "sending": (1, 1), "delivery": (0, 1)}),
     (chances.cells, {"chances": BLENDED}),
     (chances.story_weights, {"chances": BLENDED, "rules": BOTH}), (chances.tally, {"chances": BLENDED, "rules": BOTH}),
+    (fairness.is_fair, {"chances": BOTH_LED}), (fairness.unfair_rules, {"chances": BLENDED}),
+    (fairness.is_unfair, {"chances": chances.odd_ring(2), "thing": (((0, 1), (1, 0)), BOTH)}),
+    (fairness.signed_sum, {"chances": BLENDED, "lot": (1,), "heard": (1,), "one": (0, 0), "other": (1, 1)}),
+    (fairness.first_odd, {"chances": BLENDED}), (fairness.self_heard, {"chances": BLENDED, "room": 0}),
+    (fairness.mean_closed, {"chances": BLENDED, "room": 0, "rule": (0, 1)}),
+    (mixtures.inside, {"chances": BLENDED}), (mixtures.is_part, {"chances": BLENDED, "thing": (1, [(1, LED)])}),
+    (mixtures.is_price_list, {"chances": BLENDED, "thing": mixtures.least_prices(BLENDED)}),
+    (mixtures.share_of, {"chances": BLENDED, "part": (1, [(1, LED)])}),
+    (mixtures.bound_of, {"chances": BLENDED, "prices": mixtures.least_prices(BLENDED)}),
+    (mixtures.fine_share, {"chances": BLENDED}), (mixtures.greatest_part, {"chances": BLENDED}),
+    (mixtures.least_prices, {"chances": BLENDED}), (mixtures.mixture, {"chances": BOTH_LED}),
+    (mixtures.is_mixture, {"chances": BOTH_LED, "thing": [(2, LED), (1, CROSS)]}),
+    (mixtures.led, {"chances": BOTH_LED}), (mixtures.is_led, {"chances": BOTH_LED, "thing": mixtures.led(BOTH_LED)}),
+    (house.House, {"table": TURNING}), (leads.parting, {"table": TURNING, "one": (0, 0, 0), "other": (1, 1, 0)}),
+    (leads.binding_step, {"table": TURNING, "one": (0, 0, 0), "other": (1, 1, 0)}),
+    (leads.is_binding_step, {"table": TURNING, "one": ENDS[0], "other": ENDS[1], "thing": tuple(ALWAYS)}),
+    (leads.passage, {**LEADS, "most": 3}), (leads.is_passage, {**LEADS, "most": 3, "thing": list(ALWAYS)}),
+    (leads.fence, {**LEADS, "most": 2}), (leads.is_fence, {**LEADS, "most": 2, "thing": ENDS[:1]}),
+    (leads.heights, {**LEADS, "most": 2, "number": 3}),
+    (leads.are_heights, {**LEADS, "most": 2, "number": 3, "thing": {(1, 1, 1): 4, (0, 0, 0): 0}}),
+    (leads.fewest_changes, {**LEADS, "most": 3}), (leads.least_most, LEADS),
+    (rebuilding.rebuilding, {**BUILT, "most": 2}),
+    (rebuilding.is_rebuilding, {**BUILT, "most": 2, "thing": [(BUILT["one"], BUILT["start"]),
+                                                              (BUILT["one"], BUILT["goal"])]}),
+    (rebuilding.deaf_rooms, {"table": BUILT["one"]}), (rebuilding.moat, {**BUILT, "most": 1}),
+    (rebuilding.is_moat, {**BUILT, "most": 1, "thing": ((0, 0),)}), (texts.house_text, {"house": LIVED}),
+    (texts.read_house, {"text": texts.house_text(LIVED)}),
 ]
 
 

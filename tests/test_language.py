@@ -14,7 +14,8 @@ FOLDER = Path(__file__).resolve().parent.parent / "onestory"
 ORDER = ["errors", "shapes", "tables", "stories", "fine", "smaller", "barren", "counts", "mixed", "ones", "closings",
          "talks", "clocks", "rings", "walks", "homes", "sketches", "search", "every", "dooms", "ways", "memory",
          "screens", "nears", "ties", "hitting", "stamps", "classes", "mixes", "turns", "renamings", "listing",
-         "building", "backwards", "telling", "asking", "chances"]
+         "building", "backwards", "telling", "asking", "chances", "fairness", "picks", "scales", "mixtures", "reach",
+         "house", "leads", "rebuilding", "texts"]
 
 INTERFACE = {
     "tables": "sendings(sends) delivery(table,sending) changed(table,sending,room,note) ring_table(sizes) "
@@ -76,14 +77,35 @@ INTERFACE = {
               "are_asking_ranks(tables,aim,number,thing)",
     "chances": "Chances(sends,takes,weights) blended(blend) odd_ring(rooms) weight(chances,sending,delivery) "
                "cells(chances) story_weights(chances,rules) tally(chances,rules)",
+    "fairness": "is_fair(chances) unfair_rules(chances) is_unfair(chances,thing) "
+                "signed_sum(chances,lot,heard,one,other) first_odd(chances) self_heard(chances,room) "
+                "mean_closed(chances,room,rule)",
+    "mixtures": "inside(chances) is_part(chances,thing) is_price_list(chances,thing) share_of(chances,part) "
+                "bound_of(chances,prices) fine_share(chances) greatest_part(chances) least_prices(chances) "
+                "mixture(chances) is_mixture(chances,thing) led(chances) is_led(chances,thing)",
+    "house": "House(table)",
+    "leads": "parting(table,one,other) binding_step(table,one,other) is_binding_step(table,one,other,thing) "
+             "passage(table,safe,start,goal,most) is_passage(table,safe,start,goal,most,thing) "
+             "fence(table,safe,start,goal,most) is_fence(table,safe,start,goal,most,thing) "
+             "heights(table,safe,start,goal,most,number) are_heights(table,safe,start,goal,most,number,thing) "
+             "fewest_changes(table,safe,start,goal,most) least_most(table,safe,start,goal)",
+    "rebuilding": "rebuilding(one,other,safe,start,goal,most) is_rebuilding(one,other,safe,start,goal,most,thing) "
+                  "deaf_rooms(table) moat(one,other,safe,start,goal,most) "
+                  "is_moat(one,other,safe,start,goal,most,thing)",
+    "texts": "house_text(house) read_house(text)",
 }
 
-LIBRARY = {"math": ["gcd"], "itertools": ["combinations", "permutations"]}
+HOUSE = """bind(rules) loosen(rooms) turn(room,notes) guard(safe) undo() redo() log() copy() table() bound() free()
+guarded() left() possible() story(sent) sure() heard()""".split()
+
+LIBRARY = {"math": ["gcd", "lcm"], "itertools": ["combinations", "permutations"]}
 BUILTINS = """len range enumerate zip min max sum abs sorted reversed int str bool list tuple dict set isinstance
 all any ValueError super""".split()
-METHODS = "append count extend get index insert items pop remove setdefault values __init__".split()
+METHODS = """append bit_length copy count extend get index insert items join partition pop remove setdefault
+split values __init__""".split()
 # No attribute and no own method has the name of a method of the builtin values.
-TAKEN = [name for kind in (str, list, dict, tuple, int, bytes, set) for name in vars(kind) if not name.startswith("__")]
+TAKEN = [name for kind in (str, list, dict, tuple, int, bytes, set) for name in vars(kind) if not name.startswith("__")
+         and name != "copy"]
 STATEMENTS = (ast.FunctionDef, ast.ClassDef, ast.ImportFrom, ast.Assign, ast.AugAssign, ast.If, ast.While, ast.For,
               ast.Return, ast.Raise, ast.Try, ast.Expr, ast.Pass, ast.Break, ast.Continue, ast.Delete)
 BARRED = (ast.GeneratorExp, ast.Lambda, ast.Set, ast.SetComp, ast.Starred, ast.Yield, ast.YieldFrom, ast.NamedExpr,
@@ -154,6 +176,15 @@ class Interface(unittest.TestCase):
         self.assertIn("__eq__", vars(import_module("onestory.tables").Table))
         self.assertIn("__eq__", vars(import_module("onestory.sketches").Sketch))
         self.assertIn("__eq__", vars(import_module("onestory.chances").Chances))
+
+    def test_methods_of_a_house_stand_in_the_class_itself(self):
+        house = import_module("onestory.house").House
+        for call in HOUSE:
+            word, _, rest = call.partition("(")
+            self.assertEqual(["self"] + [given for given in rest.rstrip(")").split(",") if given],
+                             list(inspect.signature(vars(house)[word]).parameters), call)
+        self.assertIn("__eq__", vars(house))
+        self.assertIn("__len__", vars(house))
 
     def test_the_package_itself_defines_nothing(self):
         self.assertEqual(ast.parse((FOLDER / "__init__.py").read_text()).body, [])
@@ -251,7 +282,7 @@ class Words(unittest.TestCase):
         for name, tree in modules().items():
             for word in bound(tree):
                 self.assertNotIn(word, vars(builtins), name)
-                self.assertRegex(word, "^(_|[A-Za-z][A-Za-z0-9_]*|__init__|__eq__)$")
+                self.assertRegex(word, "^(_|[A-Za-z][A-Za-z0-9_]*|__init__|__eq__|__len__)$")
 
     def test_names_of_methods_and_attributes(self):
         trees = modules()
