@@ -89,20 +89,18 @@ def unfair_rules(chances):
 def sided(chances, rules, side):
     """Rules whose tally is on this side of the total, -1 for below; those that are given have another one.
 
-    A note is told one after another what is sent for it, and to all that is not told yet all numbers are sent as
-    often. At first the mean tally is the total, in the end it is that of the rules. Where it leaves the total some
-    number leads to this side, and from there on some number always keeps it.
+    One note after another is told what is sent for it; for all others all numbers are sent as often as each other.
+    At first the mean tally is the total, and if all were told what the rules say it would leave the total in the end.
+    Where it would, some number leads to this side, and from there on some number always keeps it.
     """
     live = [(sent, received, many) for (sent, received), many in weighed_cells(chances)]
-    left = False
     found = []
     for room, rule in enumerate(rules):
         told = []
         for note, wanted in enumerate(rule):
             means = means_of(chances, live, room, note)
             number = wanted
-            if left or [1 for mean in means if mean != means[0]]:
-                left = True
+            if max(means) > min(means):
                 number = means.index(max(means) if side == 1 else min(means))
             told.append(number)
             live = told_on(chances, live, room, note, number)

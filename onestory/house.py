@@ -58,7 +58,7 @@ class House:
         table, known, safe = self.states[-1]
         if not is_known(table, rules) or not rules:
             raise BadBinding("no dict, not empty, from rooms to rules of them")
-        now = {room: known[room] for room in known if room not in rules}
+        now = {room: known[room] for room in known}
         for room in rules:
             now[room] = rules[room]
         self.stand(("bind", {room: rules[room] for room in sorted(rules)}), (table, now, safe))

@@ -162,13 +162,9 @@ def least_prices(chances):
 def mixture(chances):
     """Fine tables with shares that are the chances together; None if there are none."""
     scale, pairs = greatest_part(chances)
-    counts = [count for count, _ in pairs]
-    if sum(counts) != scale * chances.total:
-        return None
-    common = 0
-    for count in counts:
-        common = gcd(common, count)
-    return [(count // common, table) for count, table in pairs]
+    # Where nothing is left over, the sums are scale times the weights. So what divides all counts divides the scale,
+    # as the weights have no common divisor; and with it they have none.
+    return pairs if sum([count for count, _ in pairs]) == scale * chances.total else None
 
 
 def is_mixture(chances, thing):

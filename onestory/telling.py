@@ -1,10 +1,10 @@
 """Which of two fine tables it is, by the stories of rules alone."""
 
-from onestory.errors import OtherSizes
 from onestory.fine import need_fine
 from onestory.shapes import rows
 from onestory.stories import all_stories, are_rules_of
 from onestory.tables import brought, need_sending
+from onestory.turns import need_two
 
 
 def checking_rules(table, sending):
@@ -36,13 +36,6 @@ def is_checking(table, sending, thing):
                 for room, rule in enumerate(thing) if table.sends[room] > 1 for note, number in enumerate(rule)])
 
 
-def need_both(one, other):
-    need_fine(one)
-    need_fine(other)
-    if one.sends != other.sends or one.takes != other.takes:
-        raise OtherSizes("the tables have other sizes")
-
-
 def first_unlike(one, other):
     """The first sending at which a room that can send several numbers receives otherwise; None if there is none."""
     speakers = [room for room, sent in enumerate(one.sends) if sent > 1]
@@ -54,18 +47,18 @@ def first_unlike(one, other):
 
 def telling_rules(one, other):
     """Rules for which the two tables have unlike stories; None if there are none."""
-    need_both(one, other)
+    need_two(one, other)
     sent = first_unlike(one, other)
     return None if sent is None else checking_at(one, sent)
 
 
 def is_telling(one, other, thing):
     """Whether any value is rules for which the two tables have unlike stories."""
-    need_both(one, other)
+    need_two(one, other)
     return are_rules_of(one, thing) and all_stories(one, thing) != all_stories(other, thing)
 
 
 def same_stories(one, other):
     """Whether the two tables have the same story for all rules."""
-    need_both(one, other)
+    need_two(one, other)
     return first_unlike(one, other) is None

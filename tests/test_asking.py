@@ -116,7 +116,9 @@ def some_cases(many, seed=910):
 
 
 WRONG_TABLES = [None, True, 0, (), [], {}, "tables", A, [None], [A, None], [A, RING], [RING], [A, TURNING],
-                [QUIET, quiet_table((2, 2), (2, 3))], [A] * 9, {0: A}, [[A]], (A, (B,)), deep_value()]
+                [QUIET, quiet_table((2, 2), (2, 3))],
+                [QUIET, quiet_table((2, 3), (2, 2))], [QUIET, quiet_table((4, 1), (2, 2))], [A] * 9,
+                {0: A}, [[A]], (A, (B,)), deep_value()]
 WRONG_AIMS = [None, True, 0, "which", (), ["which"], ("story",), ("which", ()), ("which", STORY[1]),
               ["story", STORY[1]], ("story", STORY[1], ()),
               ("other",), ("story", ()), ("story", None), (None,), (("which",),), {"which": 0},
@@ -194,6 +196,7 @@ class Trees(Case):
             depths.add(fewest)
             self.assertEqual(fewest_asked(tables, aim), fewest)
             tree = asking_tree(tables, aim)
+            self.assertTrue(len(tree) == 1 or list(tree[2]) == sorted(tree[2]))
             every = plain.lots_of_all()
             for number in range(10):
                 right = number >= fewest

@@ -435,6 +435,7 @@ class Houses(Case):
         self.refused(OneRoom, nested, ring_table((2,)), 0, good)
         self.refused(BadHouse, nested, ring_table((2,)), 0, QUIET)
         self.refused(BadHouse, nested, quiet_table((2, 3), (2, 1)), 1, good)
+        self.refused(BadHouse, nested, quiet_table((1, 2), (1, 2)), 0, quiet_table((1,), (1,)))
 
     def test_too_great(self):
         table = quiet_table((2,) * 5, (2,) * 5)

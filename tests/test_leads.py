@@ -261,6 +261,11 @@ class Passages(Case):
         self.assertIsNone(fewest_changes(**given, most=2))
         self.assertEqual(heights(**given, most=2, number=9)[0, 0, 0], 0)
         self.assertIs(are_heights(**given, most=2, number=9, thing={(0, 0, 0): 0, (1, 1, 1): 99}), True)
+        three = quiet_table((2, 2, 2), (1, 1, 1))
+        safe = ((0, 0, 0), (0, 0, 1), (0, 1, 1), (1, 1, 0))
+        self.assertEqual(fence(three, safe, ((0,), (1,), (1,)), ((1,), (1,), (0,)), 1), safe[:3])
+        self.assertEqual(heights(three, safe, ((0,), (1,), (1,)), ((1,), (1,), (0,)), 1, 9),
+                         {(0, 0, 0): 2, (0, 0, 1): 1, (0, 1, 1): 0, (1, 1, 0): 9})
         given["table"] = LED
         found = passage(**given, most=1)
         # Rooms 1 and 2 are bound to send what they receive; room 0 changes; then these send 1 always.

@@ -246,6 +246,7 @@ class Wishes(Case):
                     [((0,), []), ((1,), right[1]), ((0,), [(0, 1, (1,)), (0, 1, (0,))]), right[:1], list(right)])
         self.judges(is_wish_chain, (layers, 2, {(0,): 1, (1,): 1}), [], [right])
         self.judges(is_wish_chain, (layers, 2, {(1,): 1}), [], [right, long])
+        self.judges(is_wish_chain, (layers[:1], 2, wishes), [], [right, long, ((0,), [(0, 0, (1,))]), ((0,), [])])
         draw = random.Random(724)
         for layers, _, take in some_layers(2)[-12:]:
             wishes = random_wishes(draw, layers, take)

@@ -226,7 +226,7 @@ class Parts(Case):
         right = greatest_part(two)
         wrong = [value for value in otherwise(right) if not plain_is_part(two, value)]
         ones = [(1, [(1, QUIET)]), (1, ((1, QUIET),)), (1, []), (7, ()), (999999999, [(1, QUIET)])]
-        tables = [RING, TURNING, quiet_table((2, 2), (2, 3)), None, 0, (QUIET,), HALF,
+        tables = [RING, TURNING, quiet_table((2, 2), (2, 3)), quiet_table((4, 1), (2, 2)), None, 0, (QUIET,), HALF,
                   Table((2, 2), (2, 2), ((1, 1),) * 4)]
         wrong += [(1, [(1, table)]) for table in tables] + [
             (1, [(2, QUIET)]), (1, [(1, QUIET), (1, QUIET)]), (2, [(1, QUIET), (1, QUIET)]), (True, [(1, QUIET)]),
@@ -323,7 +323,7 @@ class Mixtures(Case):
         self.judges(is_mixture, (blended([(1, RING)]),), [], [[(1, RING)], [], [(1, QUIET)]])
         self.judges(is_mixture, (blended([(3, QUIET)]),), [[(1, QUIET)], [(5, QUIET)]],
                     [[(1, QUIET), (1, QUIET)], [(True, QUIET)], [(0, QUIET)], [], [(1, RING)],
-                     [(1, quiet_table((2, 2), (2, 3)))]])
+                     [(1, quiet_table((2, 2), (2, 3)))], [(1, quiet_table((1, 4), (2, 2)))]])
         self.judges(is_mixture, (odd_ring(3),), [], [[]])
         # One ratio for all sendings: a table that brings what does not come spoils it.
         self.judges(is_mixture, (blended([(1, A), (1, QUIET)]),), [[(1, QUIET), (1, A)]], [[(1, QUIET), (1, B)]])
@@ -453,6 +453,23 @@ class Led(Case):
         self.assertIs(is_led(chances, (right[0], *moved)), plain_is_led(chances, (right[0], *moved)))
         self.judges(is_led, (odd_ring(2),), [], [right])
         self.judges(is_led, (HALF,), [], [right])
+        nothing = [{key: 0 for key in part} for part in right[1:]]
+        self.judges(is_led, (chances,), [], [(0, *nothing), (-1, *[
+            {key: -number for key, number in part.items()} for part in right[1:]])])
+
+    def test_a_room_must_not_hear_itself_in_what_is_led(self):
+        for room in (0, 1):
+            table = Table((2, 2), (2, 2), tuple(
+                tuple(sent[k] if k == room else 0 for k in (0, 1)) for sent in rows((2, 2))))
+            chances = blended([(1, table)])
+            deliveries = sorted({received for _, received in cells(chances)})
+            leads = [{(number, received): int(k == room and received[k] == number)
+                      for number in (0, 1) for received in deliveries} for k in (0, 1)]
+            for x, y in rows((2, 2)):
+                for received in deliveries:
+                    self.assertEqual(leads[0][x, received] + leads[1][y, received], weight(chances, (x, y), received))
+            self.judges(is_led, (chances,), [], [(1, *leads)])
+            self.assertIsNone(led(chances))
 
     def test_wrong_values(self):
         others = [odd_ring(3), THREE, blended([(1, TURNING)]), odd_ring(6)]

@@ -188,6 +188,10 @@ class Rebuildings(Case):
         self.assertIs(is_moat(**given, most=1, thing=((0, 0),)), True)
         self.assertIs(is_moat(**given, most=2, thing=((0, 0),)), False)
         self.assertIsNone(moat(**given, most=2))
+        three = quiet_table((2, 2, 2), (1, 1, 1))
+        safe = ((0, 0, 0), (0, 0, 1), (0, 1, 1), (1, 1, 0))
+        self.assertEqual(moat(three, three, safe, ((0,), (1,), (1,)), ((1,), (1,), (0,)), 1), safe[:3])
+        self.assertEqual(moat(three, three, safe, ((1,), (1,), (0,)), ((0,), (0,), (0,)), 1), safe[3:])
 
     def test_deaf_rooms(self):
         for table in some_tables(1) + [RING, DEAF, quiet_table((2, 2, 2), (1, 3, 1))]:
@@ -228,6 +232,10 @@ class Rebuildings(Case):
         rules = ((0, 0), (0, 0))
         given = (QUIET, QUIET, ((0, 0),), rules, rules, 2)
         self.judges(is_rebuilding, given, [[(QUIET, rules)] * 3], [[(QUIET, rules), (ring, rules), (QUIET, rules)]])
+        # So must its sizes be those of the two tables.
+        for between in [(quiet_table((4, 1), (2, 2)), rules), (quiet_table((1, 4), (2, 2)), rules),
+                        (quiet_table((2, 2), (2, 3)), ((0, 0), (0, 0, 0)))]:
+            self.judges(is_rebuilding, given, [], [[(QUIET, rules), between, (QUIET, rules)]])
         # A room that has another rule and receives another note counts once.
         other = Table((2, 2), (2, 2), ((0, 1),) * 4)
         between = (other, ((0, 0), (0, 1)))
@@ -273,7 +281,8 @@ class Rebuildings(Case):
         ring = ring_table((2, 2, 2))
         quiet = quiet_table((2, 2, 2), (2, 2, 2))
         for function, more in [(rebuilding, ()), (moat, ()), (is_rebuilding, (None,)), (is_moat, (None,))]:
-            self.refused(NotFine, function, ring, None, None, None, None, None, *more)
+            self.refused(BadTable, function, ring, None, None, None, None, None, *more)
+            self.refused(NotFine, function, ring, TURNING, None, None, None, None, *more)
             self.refused(BadTable, function, TURNING, None, None, None, None, None, *more)
             self.refused(NotFine, function, TURNING, ring, None, None, None, None, *more)
             self.refused(NotFine, function, TURNING, RING, None, None, None, None, *more)

@@ -137,6 +137,7 @@ class Telling(Case):
                 self.refused(OtherSizes, function, one, other, *more.values())
             self.refused(NotFine, function, RING, A, *more.values())
             self.refused(NotFine, function, A, RING, *more.values())
-            self.refused(NotFine, function, RING, None, *more.values())
+            self.refused(BadTable, function, RING, None, *more.values())
+            self.refused(NotFine, function, RING, TURNING, *more.values())
             self.refused(NotFine, function, A, ring_table((2, 2, 2)), *more.values())
             self.refused(BadTable, function, TURNING, None, *more.values())
