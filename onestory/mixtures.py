@@ -8,7 +8,7 @@ from onestory.fairness import is_fair
 from onestory.fine import is_fine
 from onestory.picks import Picks
 from onestory.scales import Scales
-from onestory.shapes import is_below, is_number, is_row
+from onestory.shapes import is_below, is_number, is_row, rows
 from onestory.sketches import ascends
 from onestory.tables import Table, brought
 
@@ -32,39 +32,35 @@ def is_inside(chances, thing):
     return all(comes) and is_fine(thing)
 
 
-def are_counted(thing, is_right):
+def are_counted(chances, thing):
     """Whether any value is a list of pairs of a number from 1 on and such a Table, ascending by their notes."""
-    if not isinstance(thing, (list, tuple)) or not all([is_counted(pair, is_right) for pair in thing]):
+    if not isinstance(thing, (list, tuple)) or not all([is_counted(chances, pair) for pair in thing]):
         return False
     return ascends([table.notes for _, table in thing])
 
 
-def is_counted(thing, is_right):
+def is_counted(chances, thing):
     if not isinstance(thing, tuple) or len(thing) != 2:
         return False
-    return is_number(thing[0]) and thing[0] >= 1 and is_right(thing[1])
+    return is_number(thing[0]) and thing[0] >= 1 and is_inside(chances, thing[1])
 
 
 def sums_of(chances, pairs):
-    """The dict from all cells to the sums of the counts of the tables that bring the delivery at the sending."""
+    """The dict from all cells to the sums of the counts of the tables, all of them inside, that bring them."""
     found = {cell: 0 for cell, _ in weighed_cells(chances)}
     for count, table in pairs:
-        for sent, received in [cell for cell in found if brought(table, cell[0]) == cell[1]]:
-            found[(sent, received)] += count
+        for cell in zip(rows(chances.sends), table.notes):
+            found[cell] += count
     return found
 
 
 def is_part(chances, thing):
     """Whether any value is a part of the chances."""
     need_chances(chances)
-
-    def is_right(table):
-        return is_inside(chances, table)
-
     if not isinstance(thing, tuple) or len(thing) != 2 or not is_number(thing[0]) or thing[0] < 1:
         return False
     scale, pairs = thing
-    if not are_counted(pairs, is_right):
+    if not are_counted(chances, pairs):
         return False
     sums = sums_of(chances, pairs)
     return all([sums[cell] <= scale * many for cell, many in weighed_cells(chances)])
@@ -170,11 +166,7 @@ def mixture(chances):
 def is_mixture(chances, thing):
     """Whether any value is a mixture of the chances."""
     need_chances(chances)
-
-    def is_right(table):
-        return is_inside(chances, table)
-
-    if not are_counted(thing, is_right) or len(thing) == 0:
+    if not are_counted(chances, thing) or len(thing) == 0:
         return False
     whole = sum([count for count, _ in thing])
     sums = sums_of(chances, thing)
