@@ -4,7 +4,7 @@ from itertools import combinations
 
 from onestory.errors import NotFine
 from onestory.shapes import is_below, is_row, rows
-from onestory.tables import brought, need_sending, need_table
+from onestory.tables import brought, need_same_sizes, need_sending, need_table
 
 
 def least_parting(one, other, here, there):
@@ -18,6 +18,13 @@ def least_parting(one, other, here, there):
 def need_fine(table):
     if first_pair(table) is not None:
         raise NotFine("the table is not fine")
+
+
+def need_two_fine(one, other):
+    # need_fine refuses what is no Table as well, so all that is wrong with one comes ahead of other.
+    need_fine(one)
+    need_fine(other)
+    need_same_sizes(one, other)
 
 
 def part(table, one, other):

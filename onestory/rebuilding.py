@@ -1,17 +1,16 @@
 """Safe ways from a fine table and rules to others by binding and turning rooms: rebuildings, or moats."""
 
-from onestory.fine import is_fine
+from onestory.fine import is_fine, need_two_fine
 from onestory.leads import need_most, need_safe_rules, unlike_rooms
 from onestory.reach import is_shore, need_safe, shore, steps_from, way_to
 from onestory.shapes import put_in, rows
 from onestory.stories import all_stories, are_rules_of
 from onestory.tables import Table, need_table
-from onestory.turns import need_two
 
 
 def need_all(one, other, safe, start, goal, most):
     """The stories of start and goal, when all is as it must be."""
-    need_two(one, other)
+    need_two_fine(one, other)
     need_safe(one, safe)
     here = need_safe_rules(one, safe, start)
     there = need_safe_rules(other, safe, goal)

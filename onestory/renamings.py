@@ -2,11 +2,11 @@
 
 from itertools import permutations
 
-from onestory.errors import BadPaper, BadRenaming, BadSends, BadTakes, OtherSizes, TooMany
+from onestory.errors import BadPaper, BadRenaming, BadSends, BadTakes, TooMany
 from onestory.fine import is_paper
 from onestory.shapes import are_sends, are_takes, is_row, multiplied, rows
 from onestory.stories import need_rules
-from onestory.tables import Table, need_sending, need_table
+from onestory.tables import Table, need_same_sizes, need_sending, need_table
 
 MOST_RENAMINGS = 20000
 
@@ -215,8 +215,7 @@ def renamings(one, other):
     """The ascending list of all renamings by which one table becomes the other."""
     need_table(one)
     need_table(other)
-    if one.sends != other.sends or one.takes != other.takes:
-        raise OtherSizes("the tables have other sizes")
+    need_same_sizes(one, other)
     need_few(one.sends, one.takes)
     found = []
     for rooms, sent in sendings_renamed(one):

@@ -1,6 +1,7 @@
 """Tables: which note each room receives by what all rooms send."""
 
-from onestory.errors import BadNote, BadNotes, BadRoom, BadSending, BadSends, BadSizes, BadTable, BadTakes
+from onestory.errors import (BadNote, BadNotes, BadRoom, BadSending, BadSends, BadSizes, BadTable, BadTakes,
+                             OtherSizes)
 from onestory.shapes import are_sends, are_takes, is_below, is_row, multiplied, place, put_in, rows
 
 
@@ -33,6 +34,11 @@ def are_notes(sends, takes, thing):
 def need_table(table):
     if not isinstance(table, Table):
         raise BadTable("no Table")
+
+
+def need_same_sizes(one, other):
+    if one.sends != other.sends or one.takes != other.takes:
+        raise OtherSizes("the tables have other sizes")
 
 
 def need_room(table, room):

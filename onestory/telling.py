@@ -1,10 +1,9 @@
 """Which of two fine tables it is, by the stories of rules alone."""
 
-from onestory.fine import need_fine
+from onestory.fine import need_fine, need_two_fine
 from onestory.shapes import rows
 from onestory.stories import all_stories, are_rules_of
 from onestory.tables import brought, need_sending
-from onestory.turns import need_two
 
 
 def checking_rules(table, sending):
@@ -47,18 +46,18 @@ def first_unlike(one, other):
 
 def telling_rules(one, other):
     """Rules for which the two tables have unlike stories; None if there are none."""
-    need_two(one, other)
+    need_two_fine(one, other)
     sent = first_unlike(one, other)
     return None if sent is None else checking_at(one, sent)
 
 
 def is_telling(one, other, thing):
     """Whether any value is rules for which the two tables have unlike stories."""
-    need_two(one, other)
+    need_two_fine(one, other)
     return are_rules_of(one, thing) and all_stories(one, thing) != all_stories(other, thing)
 
 
 def same_stories(one, other):
     """Whether the two tables have the same story for all rules."""
-    need_two(one, other)
+    need_two_fine(one, other)
     return first_unlike(one, other) is None

@@ -1,11 +1,11 @@
 """Turns, by which a fine table becomes another one, room by room, and the fewest of them."""
 
-from onestory.errors import BadMix, BadNotes, BadNumber, BadRooms, BadTable, BadTurns, OtherSizes
-from onestory.fine import first_pair, is_pair, least_parting, need_fine
+from onestory.errors import BadMix, BadNotes, BadNumber, BadRooms, BadTurns
+from onestory.fine import first_pair, is_pair, least_parting, need_fine, need_two_fine
 from onestory.mixes import Mixes, mixed_table, raised
 from onestory.shapes import is_below, is_row, put_in
 from onestory.sketches import ascends
-from onestory.tables import Table, brought, need_room, need_table
+from onestory.tables import brought, need_room, need_table
 from onestory.ties import classes_of, note_at_rest, turned_table
 
 MOST_TURNS = 20
@@ -48,12 +48,10 @@ def passed(table, turns):
 
 
 def need_two(one, other):
-    if not isinstance(one, Table) or not isinstance(other, Table):
-        raise BadTable("no Table")
-    need_fine(one)
-    need_fine(other)
-    if one.sends != other.sends or one.takes != other.takes:
-        raise OtherSizes("the tables have other sizes")
+    # Turns are checked in an order of their own: here BadTable for either comes ahead of NotFine for either.
+    need_table(one)
+    need_table(other)
+    need_two_fine(one, other)
 
 
 def is_way(one, other, thing):

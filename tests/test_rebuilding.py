@@ -281,9 +281,13 @@ class Rebuildings(Case):
         ring = ring_table((2, 2, 2))
         quiet = quiet_table((2, 2, 2), (2, 2, 2))
         for function, more in [(rebuilding, ()), (moat, ()), (is_rebuilding, (None,)), (is_moat, (None,))]:
-            self.refused(BadTable, function, ring, None, None, None, None, None, *more)
-            self.refused(NotFine, function, ring, TURNING, None, None, None, None, *more)
-            self.refused(BadTable, function, TURNING, None, None, None, None, None, *more)
+            # What is wrong with one comes ahead of what is wrong with other.
+            for other in wrong_tables(RING) + [ring, RING, TURNING, QUIET]:
+                self.refused(NotFine, function, ring, other, None, None, None, None, *more)
+                self.refused(BadTable, function, None, other, None, None, None, None, *more)
+            for other in wrong_tables(RING):
+                self.refused(BadTable, function, TURNING, other, None, None, None, None, *more)
+                self.refused(BadTable, function, QUIET, other, None, None, None, None, *more)
             self.refused(NotFine, function, TURNING, ring, None, None, None, None, *more)
             self.refused(NotFine, function, TURNING, RING, None, None, None, None, *more)
             for other in [QUIET, quiet_table((2, 2, 2), (2, 2, 3)), quiet_table((2, 2, 3), (2, 2, 2))]:

@@ -135,9 +135,15 @@ class Telling(Case):
             for one, other in [(A, TURNING), (QUIET, quiet_table((2, 2), (2, 3))), (ZERO_ALWAYS, A),
                                (quiet_table((2, 3), (1, 1)), quiet_table((3, 2), (1, 1)))]:
                 self.refused(OtherSizes, function, one, other, *more.values())
-            self.refused(NotFine, function, RING, A, *more.values())
             self.refused(NotFine, function, A, RING, *more.values())
-            self.refused(BadTable, function, RING, None, *more.values())
-            self.refused(NotFine, function, RING, TURNING, *more.values())
             self.refused(NotFine, function, A, ring_table((2, 2, 2)), *more.values())
-            self.refused(BadTable, function, TURNING, None, *more.values())
+
+    def test_what_is_wrong_with_one_comes_ahead_of_other(self):
+        for function, more in [(telling_rules, ()), (is_telling, (None,)), (same_stories, ())]:
+            for other in wrong_tables(RING) + [RING, A, TURNING]:
+                self.refused(NotFine, function, RING, other, *more)
+                self.refused(BadTable, function, None, other, *more)
+            for one in (A, TURNING):
+                for other in wrong_tables(RING):
+                    self.refused(BadTable, function, one, other, *more)
+                self.refused(NotFine, function, one, RING, *more)

@@ -389,8 +389,10 @@ class Judged(Case):
             for one, other in [(RING, QUIET), (QUIET, RING), (RING, RING), (RING, fatter), (TURNING, RING)]:
                 self.refused(NotFine, function, one, other, *rest)
                 self.refused(NotFine, function, one, other, *bad)
-            self.refused(BadTable, function, RING, None, *rest)
-            self.refused(BadTable, function, None, RING, *rest)
+            # Here no Table in either place comes ahead of what is not fine.
+            for value in wrong_tables(RING):
+                self.refused(BadTable, function, RING, value, *rest)
+                self.refused(BadTable, function, value, RING, *rest)
             for one, other in [(QUIET, fatter), (QUIET, TURNING), (quiet_table((2, 3), (2, 2)), QUIET),
                                (quiet_table((2, 3), (1, 1)), quiet_table((3, 2), (1, 1)))]:
                 self.refused(OtherSizes, function, one, other, *rest)
